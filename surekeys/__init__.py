@@ -1,0 +1,1 @@
+"""Surekeys: keys of tables with unknown entries."""

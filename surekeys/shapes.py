@@ -1,0 +1,77 @@
+"""What is columns, a row, a table, a set, a demand. Nothing here raises an error.
+
+The parameter value stands for any value; columns are right columns already.
+"""
+
+MOST_COLUMNS = 4
+MOST_VALUES = 3
+MOST_ROWS = 8
+MOST_UNKNOWN = 6
+MOST_SETS = 4
+
+
+def is_an_integer(value):
+    # Python counts True and False among the integers; the document does not.
+    return isinstance(value, int) and not isinstance(value, bool)
+
+
+def is_value(value):
+    return is_an_integer(value) and value >= 0
+
+
+def is_number_below(value, limit):
+    return is_value(value) and value < limit
+
+
+def is_ascending(integers):
+    """Whether each of the integers is less than the next one; so none stands there twice."""
+    return all([integers[k] < integers[k + 1] for k in range(len(integers) - 1)])
+
+
+def is_closed_column(value):
+    if not isinstance(value, tuple) or not 1 <= len(value) <= MOST_VALUES:
+        return False
+    return all([is_value(entry) for entry in value]) and is_ascending(value)
+
+
+def fits_columns(value):
+    if not isinstance(value, tuple) or not 1 <= len(value) <= MOST_COLUMNS:
+        return False
+    return all([column is None or is_closed_column(column) for column in value])
+
+
+def fits_known_entry(column, value):
+    """Whether the value is one of the column, which is given by its tuple of values or None."""
+    # Without the first test, True would be found among the values 0 and 1.
+    return is_value(value) and (column is None or value in column)
+
+
+def fits_row(columns, value):
+    if not isinstance(value, tuple) or len(value) != len(columns):
+        return False
+    return all([entry is None or fits_known_entry(column, entry) for column, entry in zip(columns, value)])
+
+
+def fits_table(columns, value):
+    if not isinstance(value, tuple) or len(value) > MOST_ROWS:
+        return False
+    if not all([fits_row(columns, row) for row in value]):
+        return False
+    return len(unknown_places(value)) <= MOST_UNKNOWN
+
+
+def unknown_places(table):
+    """The ascending list of the tuples (row, column) of the unknown entries."""
+    return [(i, k) for i, row in enumerate(table) for k, entry in enumerate(row) if entry is None]
+
+
+def fits_set(columns, value):
+    if not isinstance(value, tuple):
+        return False
+    return all([is_number_below(k, len(columns)) for k in value]) and is_ascending(value)
+
+
+def fits_demand(columns, value):
+    if not isinstance(value, tuple) or len(value) > MOST_SETS:
+        return False
+    return all([fits_set(columns, some) for some in value])
