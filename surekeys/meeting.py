@@ -1,6 +1,8 @@
 """Stage 3: meeting rows and sure keys."""
 
+from surekeys.fillings import filled
 from surekeys.needs import need_row_number, need_set, need_table, need_table_and_set
+from surekeys.pairs import rows_can_meet
 
 
 def can_meet(columns, table, i, j, some):
@@ -33,10 +35,6 @@ def meeting_world(columns, table, some):
     return world_of_meeting(columns, table, found[0])
 
 
-def rows_can_meet(row, other, some):
-    return all([row[k] is None or other[k] is None or row[k] == other[k] for k in some])
-
-
 def meeting_rows(table, some):
     many = len(table)
     return [(i, j) for i in range(many) for j in range(i + 1, many) if rows_can_meet(table[i], table[j], some)]
@@ -49,17 +47,9 @@ def world_of_meeting(columns, table, pair):
     rows[i] = with_entries_of(table[i], table[j])
     rows[j] = with_entries_of(table[j], table[i])
     # Entries that neither row knows get the same value in both, since this value depends on the column alone.
-    return tuple([filled_by_columns(columns, row) for row in rows])
+    return filled(columns, tuple(rows))
 
 
 def with_entries_of(row, other):
     """The row, with the other one's entries where its own ones are unknown."""
     return tuple([there if entry is None else entry for entry, there in zip(row, other)])
-
-
-def filled_by_columns(columns, row):
-    return tuple([first_value(column) if entry is None else entry for column, entry in zip(columns, row)])
-
-
-def first_value(column):
-    return 0 if column is None else column[0]

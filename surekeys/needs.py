@@ -3,8 +3,10 @@
 Each check but the first trusts in the arguments that stand before its own.
 """
 
-from surekeys.errors import InvalidColumns, InvalidNumber, InvalidSet, InvalidTable
-from surekeys.shapes import fits_columns, fits_set, fits_table, is_number_below
+from surekeys.errors import InvalidColumns, InvalidDemand, InvalidKind, InvalidNumber, InvalidRules, InvalidSet
+from surekeys.errors import InvalidTable
+from surekeys.shapes import fits_columns, fits_demand, fits_kind, fits_many, fits_rules, fits_set_of, fits_table
+from surekeys.shapes import is_number_below
 
 
 def need_columns(columns):
@@ -24,8 +26,17 @@ def need_row_number(table, i):
         raise InvalidNumber("this is not the number of a row of the table")
 
 
+def need_column_number(columns, column):
+    if not is_number_below(column, len(columns)):
+        raise InvalidNumber("this is not the number of a column")
+
+
 def need_set(columns, some):
-    if not fits_set(columns, some):
+    need_set_of(len(columns), some)
+
+
+def need_set_of(many, some):
+    if not fits_set_of(many, some):
         raise InvalidSet("this is not an ascending tuple of different columns")
 
 
@@ -33,3 +44,29 @@ def need_table_and_set(columns, table, some):
     """Right columns, a table and a set of them, in this order."""
     need_table(columns, table)
     need_set(columns, some)
+
+
+def need_table_and_demand(columns, table, demand):
+    """Right columns, a table and a demand of them, in this order."""
+    need_table(columns, table)
+    if not fits_demand(columns, demand):
+        raise InvalidDemand("this is not a tuple of at most 4 sets")
+
+
+def need_many(many):
+    if not fits_many(many):
+        raise InvalidNumber("this is not a number of columns from 1 to 4")
+
+
+def need_rules(many, rules):
+    """A right number of columns and key rules for so many, in this order."""
+    need_many(many)
+    if not fits_rules(many, rules):
+        raise InvalidRules("these are not key rules for so many columns")
+
+
+def need_rules_and_kind(many, rules, kind):
+    """A right number of columns, key rules for so many and a kind, in this order."""
+    need_rules(many, rules)
+    if not fits_kind(kind):
+        raise InvalidKind("a kind is one of the words sure and possible")

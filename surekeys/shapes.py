@@ -1,6 +1,6 @@
-"""What is columns, a row, a table, a set, a demand. Nothing here raises an error.
+"""What is columns, a row, a table, a set, a demand, key rules. Nothing here raises an error.
 
-The parameter value stands for any value; columns are right columns already.
+The parameter value stands for any value; columns are right columns already, and many is a right number of columns.
 """
 
 MOST_COLUMNS = 4
@@ -8,6 +8,9 @@ MOST_VALUES = 3
 MOST_ROWS = 8
 MOST_UNKNOWN = 6
 MOST_SETS = 4
+MOST_RULES = 6
+MOST_RULED_ROWS = 40
+KINDS = ("sure", "possible")
 
 
 def is_an_integer(value):
@@ -66,12 +69,45 @@ def unknown_places(table):
 
 
 def fits_set(columns, value):
+    return fits_set_of(len(columns), value)
+
+
+def fits_set_of(many, value):
     if not isinstance(value, tuple):
         return False
-    return all([is_number_below(k, len(columns)) for k in value]) and is_ascending(value)
+    return all([is_number_below(k, many) for k in value]) and is_ascending(value)
 
 
 def fits_demand(columns, value):
-    if not isinstance(value, tuple) or len(value) > MOST_SETS:
+    return fits_sets_of(len(columns), value, MOST_SETS)
+
+
+def fits_sets_of(many, value, most):
+    """Whether the value is a tuple of so many sets at most."""
+    if not isinstance(value, tuple) or len(value) > most:
         return False
-    return all([fits_set(columns, some) for some in value])
+    return all([fits_set_of(many, some) for some in value])
+
+
+def fits_many(value):
+    return is_number_below(value, MOST_COLUMNS + 1) and value > 0
+
+
+def fits_rules(many, value):
+    if not isinstance(value, tuple) or len(value) != 3:
+        return False
+    known, sure, possible = value
+    if not fits_set_of(many, known):
+        return False
+    return fits_sets_of(many, sure, MOST_RULES) and fits_sets_of(many, possible, MOST_RULES)
+
+
+def fits_ruled_table(many, value):
+    """Whether the value is a table as in the stages 7 to 9: of open columns, with more rows and unknown entries."""
+    if not isinstance(value, tuple) or len(value) > MOST_RULED_ROWS:
+        return False
+    return all([fits_row((None,) * many, row) for row in value])
+
+
+def fits_kind(value):
+    return value in KINDS

@@ -30,30 +30,86 @@ def all_tables(columns, most_rows, entries):
     return [table for many in range(most_rows + 1) for table in product(rows, repeat=many)]
 
 
-def some_worlds(columns, table):
-    """All worlds, but in open columns only with known values and one new value for each unknown entry.
+def some_worlds(columns, table, more=0):
+    """All worlds, but in open columns only with known values and one new value, or more, for each unknown entry.
 
     Whether rows are equal somewhere in a world depends on which of its entries are equal only,
     so what holds in one of the worlds left out holds in one of these.
     """
     choices = []
-    for i, row in enumerate(table):
+    for row in table:
         for k, entry in enumerate(row):
-            choices.append((entry,) if entry is not None else values_of(columns, table, k))
+            choices.append((entry,) if entry is not None else values_of(columns, table, k, more))
     width = len(columns)
     for flat in product(*choices):
         yield tuple(flat[i * width:(i + 1) * width] for i in range(len(table)))
 
 
-def values_of(columns, table, k):
+def values_of(columns, table, k, more):
     if columns[k] is not None:
         return columns[k]
     known = sorted({row[k] for row in table if row[k] is not None})
     unknown = sum(row[k] is None for row in table)
     new = max(known, default=0) + 1
-    return tuple(known) + tuple(range(new, new + unknown))
+    return tuple(known) + tuple(range(new, new + unknown + more))
 
 
 def equal_rows(world, some):
     """Whether two rows of the world are equal in all columns of the set."""
     return any(all(world[i][k] == world[j][k] for k in some) for j in range(len(world)) for i in range(j))
+
+
+def keeps(world, demand):
+    return not any(equal_rows(world, some) for some in demand)
+
+
+def unknown_count(table):
+    return sum(entry is None for row in table for entry in row)
+
+
+def drawn_columns(draw, many):
+    return tuple(draw.choice([None, None, (0, 1), (2, 5, 9), (4,), (0, 3, 7)]) for _ in range(many))
+
+
+def drawn_table(draw, columns, rows, unknown):
+    """A table with few different values, so that rows are often equal somewhere."""
+    table = [[draw.choice((0, 6, 10 ** 29) if column is None else column) for column in columns] for _ in range(rows)]
+    places = [(i, k) for i in range(rows) for k in range(len(columns))]
+    for i, k in draw.sample(places, min(unknown, len(places))):
+        table[i][k] = None
+    return tuple(tuple(row) for row in table)
+
+
+def drawn_set(draw, many):
+    return tuple(k for k in range(many) if draw.random() < 0.5)
+
+
+def drawn_hard_case(draw, rows):
+    """Columns, a table and a demand: no two rows are alike at once in a demanded set, but they soon can be."""
+    columns = tuple(draw.choice([None, (0, 1), (0, 1), (0, 3, 7), (0, 3, 7)]) for _ in range(draw.randint(2, 4)))
+    demand = tuple(drawn_set(draw, len(columns)) or (0,) for _ in range(draw.randint(1, 4)))
+    table = ()
+    for _ in range(40):
+        row = tuple(None if draw.random() < 0.4 else draw.choice(column or (0, 6)) for column in columns)
+        twins = any(all(row[k] is not None and row[k] == other[k] for k in some) for other in table for some in demand)
+        if not twins and len(table) < rows and unknown_count(table + (row,)) <= 6:
+            table = table + (row,)
+    return columns, table, demand
+
+
+def changed_somewhere(value, others):
+    """The value with one thing changed at any place and depth: replaced, left out, doubled, exchanged, made a list."""
+    for other in others:
+        yield other
+    if type(value) is int and value in (0, 1):
+        yield bool(value)
+    if type(value) is tuple:
+        yield list(value)
+        yield value + value[-1:]
+        yield value[1:]
+        for k, part in enumerate(value):
+            yield value[:k] + value[k + 1:]
+            yield value[:k] + (part,) + value[k:]
+            yield value[:k] + value[k + 1:k + 2] + value[k:k + 1] + value[k + 2:]
+            for changed in changed_somewhere(part, others):
+                yield value[:k] + (changed,) + value[k + 1:]

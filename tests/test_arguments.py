@@ -1,4 +1,4 @@
-"""What all functions of columns promise of their arguments: the errors in order, nothing changed, the same again."""
+"""What all functions promise of their arguments: the errors in order, nothing changed, the same again, new lists."""
 
 import copy
 import inspect
@@ -6,36 +6,65 @@ import unittest
 from itertools import product
 
 from surekeys import columns as columns_file
-from surekeys import errors, meeting, worlds
+from surekeys import crowds, entries, errors, meeting, rules, several, worlds
 from tests.samples import WRONG_EVERYWHERE
 
 MIXED = (None, (0, 1))
 TABLE = ((5, None), (5, 0), (6, 0))
-RIGHT = {'columns': MIXED, 'table': TABLE, 'i': 0, 'j': 1, 'some': (0,), 'value': ((5, 1), (5, 0), (6, 0))}
+OF_ANY_VALUE = [(columns_file, 'is_columns', ['value'])]
+OF_TABLES = [
+    (columns_file, 'is_row', ['columns', 'value']), (columns_file, 'is_table', ['columns', 'value']),
+    (columns_file, 'is_set', ['columns', 'value']), (columns_file, 'is_demand', ['columns', 'value']),
+    (worlds, 'is_world', ['columns', 'table', 'value']), (worlds, 'is_key', ['columns', 'table', 'some']),
+    (worlds, 'world_count', ['columns', 'table']), (meeting, 'can_meet', ['columns', 'table', 'i', 'j', 'some']),
+    (meeting, 'meetings', ['columns', 'table', 'some']), (meeting, 'is_sure', ['columns', 'table', 'some']),
+    (meeting, 'meeting_world', ['columns', 'table', 'some']), (crowds, 'is_possible', ['columns', 'table', 'some']),
+    (crowds, 'key_world', ['columns', 'table', 'some']), (crowds, 'crowd', ['columns', 'table', 'some']),
+    (crowds, 'is_crowd', ['columns', 'table', 'some', 'value']),
+    (several, 'common_world', ['columns', 'table', 'demand']), (several, 'twin_tree', ['columns', 'table', 'demand']),
+    (several, 'is_twin_tree', ['columns', 'table', 'demand', 'value']),
+    (entries, 'barred', ['columns', 'table', 'demand', 'i', 'column']),
+    (entries, 'settled', ['columns', 'table', 'demand']),
+]
+OF_RULES = [
+    (rules, 'is_rules', ['many', 'value']), (rules, 'obeys', ['many', 'rules', 'value']),
+    (rules, 'follows', ['many', 'rules', 'kind', 'some']), (rules, 'reason', ['many', 'rules', 'kind', 'some']),
+    (rules, 'against', ['many', 'rules', 'kind', 'some']),
+]
+INTERFACE = OF_ANY_VALUE + OF_TABLES + OF_RULES
+RETURN_LISTS = ['meetings', 'barred', 'settled']
+RETURN_BOOLS = ['can_meet', 'obeys', 'follows']
+
+RIGHT = {
+    'columns': MIXED, 'table': TABLE, 'i': 0, 'j': 1, 'column': 1, 'some': (0,), 'demand': ((0, 1), (0,)),
+    'many': 3, 'rules': ((0,), ((0, 1),), ((0, 2),)), 'kind': 'sure', 'value': ((5, 1), (5, 0), (6, 0)),
+}
 WRONG = {
     'columns': WRONG_EVERYWHERE + [(), (None,) * 5, [None, (0, 1)], (None, (1, 0)), (None, (0, 1, 2, 3)), (None, ())],
     'table': WRONG_EVERYWHERE + [((5, 2),), ((5,),), ((5, 0),) * 9, ((None, 0),) * 7, [(5, 0)]],
     'i': WRONG_EVERYWHERE + [3, 4, (0,)],
     'j': WRONG_EVERYWHERE + [3, 4, (0,)],
-    'some': WRONG_EVERYWHERE + [(2,), (1, 0), (0, 0), (0, 1, 2), 0],
+    'column': WRONG_EVERYWHERE + [2, 3, (0,)],
+    'some': WRONG_EVERYWHERE + [(3,), (1, 0), (0, 0), (0, 1, 2, 3), 0],
+    'demand': WRONG_EVERYWHERE + [((2,),), ((1, 0),), ((0,),) * 5, [(0,)], ([0],), (0,), ((0,), (0, 0))],
+    'many': WRONG_EVERYWHERE + [0, 5, (3,), '3', [3]],
+    'rules': WRONG_EVERYWHERE + [(), ((), ()), ((), (), (), ()), ((3,), (), ()), ((1, 0), (), ()), [(), (), ()],
+                                 ((), [], ()), ((), ((0,),) * 7, ()), ((), (), ((0,),) * 7), ((), ((True,),), ())],
+    'kind': [value for value in WRONG_EVERYWHERE if value != 'sure'] + ['Sure', ('sure',), ['possible'], 0, 1],
 }
 ERRORS = {
     'columns': errors.InvalidColumns, 'table': errors.InvalidTable, 'i': errors.InvalidNumber,
-    'j': errors.InvalidNumber, 'some': errors.InvalidSet,
+    'j': errors.InvalidNumber, 'column': errors.InvalidNumber, 'some': errors.InvalidSet,
+    'demand': errors.InvalidDemand, 'many': errors.InvalidNumber, 'rules': errors.InvalidRules,
+    'kind': errors.InvalidKind,
 }
 # A few wrong values of each, to be combined: all of them together would be too many.
 FEW = {
     'columns': [[None], (), (None, True)], 'table': [[], ((5, 2),), ((True, 0),)], 'i': [True, -1, 3, '0'],
-    'j': [False, -1, 3, [0]], 'some': [0, [0], (2,), (1, 0), (True,)],
+    'j': [False, -1, 3, [0]], 'column': [True, -1, 2], 'some': [0, [0], (3,), (1, 0), (True,)],
+    'demand': [[], ((3,),), ((0,),) * 5], 'many': [0, 5, True, '3'], 'rules': [(), ((), (), []), ((4,), (), ())],
+    'kind': ['Sure', 0, ()],
 }
-INTERFACE = [
-    (columns_file, 'is_columns', ['value']), (columns_file, 'is_row', ['columns', 'value']),
-    (columns_file, 'is_table', ['columns', 'value']), (columns_file, 'is_set', ['columns', 'value']),
-    (columns_file, 'is_demand', ['columns', 'value']), (worlds, 'is_world', ['columns', 'table', 'value']),
-    (worlds, 'is_key', ['columns', 'table', 'some']), (worlds, 'world_count', ['columns', 'table']),
-    (meeting, 'can_meet', ['columns', 'table', 'i', 'j', 'some']), (meeting, 'meetings', ['columns', 'table', 'some']),
-    (meeting, 'is_sure', ['columns', 'table', 'some']), (meeting, 'meeting_world', ['columns', 'table', 'some']),
-]
 
 
 def each_function():
@@ -44,9 +73,10 @@ def each_function():
 
 
 def right_arguments(function, names):
+    right = dict(RIGHT)
     # A key is asked of a world only.
-    table = ((5, 0), (6, 1)) if function.__name__ == 'is_key' else TABLE
-    right = dict(RIGHT, table=table)
+    if function.__name__ == 'is_key':
+        right['table'] = ((5, 0), (6, 1))
     return [right[name] for name in names]
 
 
@@ -67,6 +97,10 @@ class WrongArgumentsTest(unittest.TestCase):
             function(*arguments)
         self.assertIs(type(caught.exception), error, (function.__name__, arguments))
 
+    def test_right_arguments(self):
+        for function, names in each_function():
+            function(*right_arguments(function, names))
+
     def test_one_wrong_argument(self):
         for function, names in each_function():
             for at, name in enumerate(names):
@@ -84,7 +118,7 @@ class WrongArgumentsTest(unittest.TestCase):
                 self.first_wrong_counts(function, names, asked, chosen)
 
     def first_wrong_counts(self, function, names, asked, chosen):
-        # Here, None leaves the argument right.
+        # At the first place of each list, None leaves the argument right.
         arguments = right_arguments(function, names)
         first = None
         for name, wrong in zip(asked, chosen):
@@ -95,17 +129,26 @@ class WrongArgumentsTest(unittest.TestCase):
             self.raises_exactly(ERRORS[first], function, arguments)
 
     def test_any_value_does_not_come_first(self):
-        for function in (columns_file.is_row, columns_file.is_table, columns_file.is_set, columns_file.is_demand):
-            for value in WRONG_EVERYWHERE:
-                self.raises_exactly(errors.InvalidColumns, function, ([], value))
         for value in WRONG_EVERYWHERE:
+            for function in (columns_file.is_row, columns_file.is_table, columns_file.is_set, columns_file.is_demand):
+                self.raises_exactly(errors.InvalidColumns, function, ([], value))
             self.raises_exactly(errors.InvalidColumns, worlds.is_world, (None, None, value))
             self.raises_exactly(errors.InvalidTable, worlds.is_world, (MIXED, None, value))
+            self.raises_exactly(errors.InvalidSet, crowds.is_crowd, (MIXED, TABLE, None, value))
+            self.raises_exactly(errors.InvalidDemand, several.is_twin_tree, (MIXED, TABLE, None, value))
+            self.raises_exactly(errors.InvalidNumber, rules.is_rules, (0, value))
+            self.raises_exactly(errors.InvalidRules, rules.obeys, (3, None, value))
 
     def test_right_for_other_columns_only(self):
         self.raises_exactly(errors.InvalidTable, meeting.is_sure, ((None,), TABLE, (0,)))
         self.raises_exactly(errors.InvalidSet, meeting.is_sure, ((None,), ((5,),), (1,)))
         self.raises_exactly(errors.InvalidTable, meeting.is_sure, ((None, (1, 2)), TABLE, (0,)))
+        self.raises_exactly(errors.InvalidSet, crowds.crowd, ((None,), ((5,),), (0, 1)))
+        self.raises_exactly(errors.InvalidDemand, several.twin_tree, ((None,), ((5,),), ((0,), (1,))))
+        self.raises_exactly(errors.InvalidNumber, entries.barred, ((None,), ((None,),), ((0,),), 0, 1))
+        self.raises_exactly(errors.InvalidNumber, entries.barred, ((None,), ((None,),), ((0,),), 1, 0))
+        self.raises_exactly(errors.InvalidRules, rules.follows, (2, RIGHT['rules'], 'sure', (0,)))
+        self.raises_exactly(errors.InvalidSet, rules.follows, (2, ((), (), ()), 'sure', (2,)))
 
     def test_invalid_world_comes_last(self):
         self.raises_exactly(errors.InvalidWorld, worlds.is_key, (MIXED, TABLE, (0,)))
@@ -113,12 +156,22 @@ class WrongArgumentsTest(unittest.TestCase):
         self.raises_exactly(errors.InvalidTable, worlds.is_key, (MIXED, TABLE + ((5,),), (0,)))
         self.raises_exactly(errors.InvalidColumns, worlds.is_key, ((), TABLE, (0,)))
 
+    def test_invalid_entry_comes_last(self):
+        self.raises_exactly(errors.InvalidEntry, entries.barred, (MIXED, TABLE, ((0,),), 0, 0))
+        self.raises_exactly(errors.InvalidNumber, entries.barred, (MIXED, TABLE, ((0,),), 0, 2))
+        self.raises_exactly(errors.InvalidNumber, entries.barred, (MIXED, TABLE, ((0,),), 3, 0))
+        self.raises_exactly(errors.InvalidDemand, entries.barred, (MIXED, TABLE, (0,), 0, 0))
+        self.raises_exactly(errors.InvalidTable, entries.barred, (MIXED, None, ((0,),), 0, 0))
+
     def test_numbers_of_rows(self):
         for i in (2, 7, -1, -2, True, False):
             self.raises_exactly(errors.InvalidNumber, meeting.can_meet, (MIXED, ((5, 0), (5, 1)), i, 0, (0,)))
             self.raises_exactly(errors.InvalidNumber, meeting.can_meet, (MIXED, ((5, 0), (5, 1)), 0, i, (0,)))
             self.raises_exactly(errors.InvalidNumber, meeting.can_meet, (MIXED, ((5, 0), (5, 1)), i, 0, (9,)))
+            self.raises_exactly(errors.InvalidNumber, entries.barred, (MIXED, ((5, None), (5, 1)), (), i, 1))
+            self.raises_exactly(errors.InvalidNumber, entries.barred, (MIXED, ((5, None), (5, None)), (), 0, i))
         self.raises_exactly(errors.InvalidNumber, meeting.can_meet, (MIXED, (), 0, 0, (0,)))
+        self.raises_exactly(errors.InvalidNumber, entries.barred, (MIXED, (), (), 0, 0))
         self.raises_exactly(errors.InvalidSet, meeting.can_meet, (MIXED, ((5, 0), (5, 1)), 1, 1, (9,)))
 
 
@@ -152,16 +205,22 @@ class CallsTest(unittest.TestCase):
             self.assertEqual(repr(first), repr(again))
 
     def test_new_lists(self):
-        arguments = (MIXED, TABLE, (0, 1))
-        first, again = meeting.meetings(*arguments), meeting.meetings(*arguments)
-        self.assertEqual(first, again)
-        self.assertIsNot(first, again)
+        for function, names in each_function():
+            arguments = right_arguments(function, names)
+            first, again = function(*arguments), function(*arguments)
+            self.assertEqual(isinstance(first, list), function.__name__ in RETURN_LISTS, function.__name__)
+            if isinstance(first, list):
+                self.assertIsNot(first, again)
+                self.assertFalse(any(isinstance(entry, list) for entry in first))
+                first.append('more')
+                self.assertEqual(function(*arguments), again)
         self.assertIsNot(meeting.meetings(MIXED, (), ()), meeting.meetings(MIXED, (), ()))
+        self.assertIsNot(entries.settled(MIXED, (), ()), entries.settled(MIXED, (), ()))
 
     def test_kinds_of_results(self):
         for function, arguments in self.each_call():
             result = self.outcome(function, arguments)
-            if function.__name__.startswith('is_') or function.__name__ == 'can_meet':
+            if function.__name__.startswith('is_') or function.__name__ in RETURN_BOOLS:
                 wrong = isinstance(result, type) and issubclass(result, errors.KeyRuleError)
                 self.assertTrue(wrong or isinstance(result, bool), function.__name__)
 

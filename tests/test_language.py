@@ -15,6 +15,9 @@ BUILTINS = set('''len range enumerate zip map min max sum abs sorted reversed in
     ArithmeticError OverflowError RuntimeError NotImplementedError AttributeError StopIteration
     NotImplemented'''.split())
 NOWHERE = {'register', 'mro', 'elements', 'open', 'input', 'law', 'version_info', 'with_traceback', 'add_note'}
+METHODS = set('''append clear copy count endswith extend find get index insert isalnum isalpha isdigit islower isspace
+    isupper items join keys ljust lower lstrip partition pop remove replace reverse rfind rjust rpartition rsplit rstrip
+    setdefault split splitlines startswith strip update upper values zfill bit_length sort'''.split())
 WORDS = re.compile(r'\b(typing|typing_extensions|enum|Enum|Generic|Protocol|ABC|namedtuple|NamedTuple)\b|dataclass')
 TOP = (ast.ImportFrom, ast.FunctionDef, ast.ClassDef, ast.Assign)
 NOT_ALLOWED = (ast.AsyncFunctionDef, ast.AsyncFor, ast.AsyncWith, ast.Await, ast.Div, ast.Import)
@@ -74,6 +77,24 @@ class LanguageTest(unittest.TestCase):
                     self.assertIn(node.id, BUILTINS, path)
                     self.assertIsInstance(node.ctx, ast.Load, path)
             self.assertIsNone(WORDS.search(path.read_text()), path)
+
+    def test_names_of_imports_and_classes_mean_one_thing(self):
+        for path in FILES:
+            tree = parsed(path)
+            taken = {node.name for node in tree.body if isinstance(node, ast.ClassDef)}
+            taken |= {alias.name for node in tree.body if isinstance(node, ast.ImportFrom) for alias in node.names}
+            for node in ast.walk(tree):
+                if isinstance(node, ast.arg):
+                    self.assertNotIn(node.arg, taken | set(dir(builtins)), path)
+                if isinstance(node, ast.Name) and isinstance(node.ctx, ast.Store):
+                    self.assertNotIn(node.id, taken, path)
+
+    def test_methods_of_builtin_values(self):
+        own = {node.name for path in FILES for node in ast.walk(parsed(path)) if isinstance(node, ast.FunctionDef)}
+        for path in FILES:
+            for node in ast.walk(parsed(path)):
+                if isinstance(node, ast.Call) and isinstance(node.func, ast.Attribute):
+                    self.assertIn(node.func.attr, own | METHODS | {'__init__'}, path)
 
     def test_imports(self):
         trees = {module_name(path): parsed(path) for path in FILES}

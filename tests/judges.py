@@ -1,0 +1,120 @@
+"""What the document calls right, written down a second time for the tests, straight from its definitions."""
+
+from itertools import combinations, product
+
+
+def is_integer(value):
+    return type(value) is int
+
+
+def is_number(value, limit):
+    return is_integer(value) and 0 <= value < limit
+
+
+def parts_in_worlds(columns, row, some):
+    """The set of the parts that a row can have, or None if there are endlessly many."""
+    if any(row[k] is None and columns[k] is None for k in some):
+        return None
+    return set(product(*[columns[k] if row[k] is None else (row[k],) for k in some]))
+
+
+def crowd_is_right(columns, table, some, value):
+    if type(value) is not tuple or len(value) < 2 or not all(is_number(i, len(table)) for i in value):
+        return False
+    parts = [parts_in_worlds(columns, table[i], some) for i in value]
+    if list(value) != sorted(set(value)) or None in parts:
+        return False
+    return len(set().union(*parts)) < len(value)
+
+
+def has_crowd(columns, table, some):
+    rows = range(len(table))
+    return any(crowd_is_right(columns, table, some, value)
+               for many in range(2, len(table) + 1) for value in combinations(rows, many))
+
+
+def alike(table, i, j, some):
+    return all(table[i][k] is not None and table[i][k] == table[j][k] for k in some)
+
+
+def tree_is_right(columns, table, demand, tree):
+    if type(tree) is not tuple or len(tree) != 4 or type(tree[0]) is not str:
+        return False
+    word, one, two, rest = tree
+    if word == 'twins':
+        return (is_number(one, len(table)) and is_number(two, len(table)) and one < two
+                and is_number(rest, len(demand)) and alike(table, one, two, demand[rest]))
+    if not is_number(one, len(table)) or not is_number(two, len(columns)) or table[one][two] is not None:
+        return False
+    if word == 'new':
+        known = [row[two] for row in table if row[two] is not None]
+        new = max(known) + 1 if known else 0
+        return columns[two] is None and tree_is_right(columns, put(table, one, two, new), demand, rest)
+    if word != 'split' or columns[two] is None or type(rest) is not tuple or len(rest) != len(columns[two]):
+        return False
+    return all(tree_is_right(columns, put(table, one, two, value), demand, part)
+               for value, part in zip(columns[two], rest))
+
+
+def put(table, i, k, value):
+    rows = [list(row) for row in table]
+    rows[i][k] = value
+    return tuple(tuple(row) for row in rows)
+
+
+def rules_are_right(many, value):
+    if type(value) is not tuple or len(value) != 3:
+        return False
+    known, sure, possible = value
+    if not set_is_right(many, known):
+        return False
+    return all(type(sets) is tuple and len(sets) <= 6 and all(set_is_right(many, some) for some in sets)
+               for sets in (sure, possible))
+
+
+def set_is_right(many, value):
+    return (type(value) is tuple and all(is_number(k, many) for k in value)
+            and all(one < two for one, two in zip(value, value[1:])))
+
+
+def ruled_table_is_right(many, value):
+    if type(value) is not tuple or len(value) > 40:
+        return False
+    return all(type(row) is tuple and len(row) == many and all(e is None or is_integer(e) and e >= 0 for e in row)
+               for row in value)
+
+
+def is_ruled_key(table, kind, some):
+    """Whether the set is a sure or a possible key of a table, all columns of which are open."""
+    for one, two in combinations(table, 2):
+        if kind == 'sure' and all(one[k] is None or two[k] is None or one[k] == two[k] for k in some):
+            return False
+        if kind == 'possible' and all(one[k] is not None and one[k] == two[k] for k in some):
+            return False
+    return True
+
+
+def table_obeys(many, rules, value):
+    if not ruled_table_is_right(many, value):
+        return False
+    known, sure, possible = rules
+    if any(row[k] is None for row in value for k in known):
+        return False
+    return (all(is_ruled_key(value, 'sure', some) for some in sure)
+            and all(is_ruled_key(value, 'possible', some) for some in possible))
+
+
+def reason_is_right(rules, kind, some, value):
+    known, sure, possible = rules
+    if type(value) is not tuple or len(value) != 2:
+        return False
+    word, k = value
+    if word == 'sure':
+        return is_number(k, len(sure)) and set(sure[k]) <= set(some)
+    if word != 'possible' or not is_number(k, len(possible)) or not set(possible[k]) <= set(some):
+        return False
+    return kind == 'possible' or set(possible[k]) <= set(known)
+
+
+def has_reason(rules, kind, some):
+    return any(reason_is_right(rules, kind, some, (word, k)) for word in ('sure', 'possible') for k in range(6))
