@@ -118,3 +118,75 @@ def reason_is_right(rules, kind, some, value):
 
 def has_reason(rules, kind, some):
     return any(reason_is_right(rules, kind, some, (word, k)) for word in ('sure', 'possible') for k in range(6))
+
+
+def keys_that_follow(many, rules, kind):
+    return [some for some in all_sets_of(many) if has_reason(rules, kind, some)]
+
+
+def all_sets_of(many):
+    return sorted(some for count in range(many + 1) for some in combinations(range(many), count))
+
+
+def bars_by_definition(many, rules, kind):
+    follow = keys_that_follow(many, rules, kind)
+    others = [some for some in all_sets_of(many) if some not in follow]
+    return [some for some in others if not any(set(some) < set(other) for other in others)]
+
+
+def least_keys_by_definition(many, rules, kind):
+    follow = keys_that_follow(many, rules, kind)
+    return [some for some in follow if not any(set(other) < set(some) for other in follow)]
+
+
+def table_has_just_the_keys(many, rules, value):
+    if not ruled_table_is_right(many, value) or any(row[k] is None for row in value for k in rules[0]):
+        return False
+    return all(is_ruled_key(value, kind, some) == has_reason(rules, kind, some)
+               for kind in ('sure', 'possible') for some in all_sets_of(many))
+
+
+def choice_is_right(rules, bar, first, second):
+    known = rules[0]
+    taken = set(first) | set(second)
+    if first > second or set(first) & set(second) or not taken <= set(bar) - set(known):
+        return False
+
+    def enough(columns):
+        return not has_reason(rules, 'possible', tuple(k for k in bar if k not in columns))
+
+    return enough(taken) and not any(enough(taken - {k}) for k in taken)
+
+
+def choices_by_definition(many, rules, bar):
+    sets = all_sets_of(many)
+    return [(first, second) for first in sets for second in sets if choice_is_right(rules, bar, first, second)]
+
+
+def choice_tree_is_right(many, rules, value):
+    return offered_tree_is_right(rules, offers_by_definition(many, rules), {}, value)
+
+
+def offers_by_definition(many, rules):
+    """The choices for each bar of "sure"."""
+    return [choices_by_definition(many, rules, bar) for bar in bars_by_definition(many, rules, 'sure')]
+
+
+def offered_tree_is_right(rules, offers, made, value):
+    if type(value) is not tuple or len(value) != 3 or type(value[0]) is not str:
+        return False
+    word, one, two = value
+    if word == 'clash':
+        for place in (one, two):
+            if type(place) is not tuple or len(place) != 2 or not all(is_integer(number) for number in place):
+                return False
+            if place[0] not in made or place[1] not in (0, 1):
+                return False
+        columns = set(made[one[0]][one[1]]) | set(made[two[0]][two[1]])
+        return one < two and one[0] != two[0] and has_reason(rules, 'sure', tuple(sorted(columns)))
+    if word != 'choose' or not is_number(one, len(offers)) or one in made:
+        return False
+    if type(two) is not tuple or len(two) != len(offers[one]):
+        return False
+    return all(offered_tree_is_right(rules, offers, {**made, one: choice}, tree)
+               for choice, tree in zip(offers[one], two))

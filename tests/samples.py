@@ -1,6 +1,7 @@
 """Values that several tests use."""
 
-from itertools import product
+import random
+from itertools import combinations, product
 
 
 def nested(depth, kind):
@@ -113,3 +114,42 @@ def changed_somewhere(value, others):
             yield value[:k] + value[k + 1:k + 2] + value[k:k + 1] + value[k + 2:]
             for changed in changed_somewhere(part, others):
                 yield value[:k] + (changed,) + value[k + 1:]
+
+
+def drawn_rules(draw, many):
+    """Key rules with sets of about one size, so that several of them are least keys."""
+    size = draw.randint(0, many)
+    families = []
+    for largest in (size, draw.randint(0, size)):
+        count = draw.choice((0, 1, 2, 3, 6, 6))
+        sizes = [draw.choice((largest, largest, largest, many)) for _ in range(count)]
+        families.append(tuple(tuple(sorted(draw.sample(range(many), some))) for some in sizes))
+    known = tuple(k for k in range(many) if draw.random() < 0.2)
+    return known, families[0], families[1]
+
+
+def each_drawn_rules(times, seed):
+    """Tuples (many, rules), as many for each number of columns."""
+    draw = random.Random(seed)
+    for number in range(times):
+        many = number % 4 + 1
+        yield many, drawn_rules(draw, many)
+
+
+def each_harsh_rules(times, seed):
+    """Tuples (many, rules) with small possible keys and large sure ones: for many of them no table has just the keys."""
+    draw = random.Random(seed)
+    for _ in range(times):
+        many = draw.choice((3, 4, 4))
+        size = draw.randint(2, many)
+        sure = list(combinations(range(many), size))
+        draw.shuffle(sure)
+        smaller = [some for some in all_sets(many) if 1 <= len(some) <= 3]
+        known = draw.choice(((), (), (), (0,), (1, 2)))
+        yield many, (known, tuple(sure[:draw.choice((2, 3, 4, 6))]), tuple(draw.sample(smaller, draw.randint(1, 6))))
+
+
+def all_rules_of_two_columns():
+    sets = all_sets(2)
+    families = [tuple(family) for count in range(5) for family in combinations(sets, count)]
+    return [(known, sure, possible) for known in sets for sure in families for possible in families]

@@ -6,7 +6,7 @@ import unittest
 from itertools import product
 
 from surekeys import columns as columns_file
-from surekeys import crowds, entries, errors, meeting, rules, several, worlds
+from surekeys import bars, crowds, entries, errors, exact, finding, meeting, rules, several, worlds
 from tests.samples import WRONG_EVERYWHERE
 
 MIXED = (None, (0, 1))
@@ -24,15 +24,20 @@ OF_TABLES = [
     (several, 'common_world', ['columns', 'table', 'demand']), (several, 'twin_tree', ['columns', 'table', 'demand']),
     (several, 'is_twin_tree', ['columns', 'table', 'demand', 'value']),
     (entries, 'barred', ['columns', 'table', 'demand', 'i', 'column']),
-    (entries, 'settled', ['columns', 'table', 'demand']),
+    (entries, 'settled', ['columns', 'table', 'demand']), (finding, 'differences', ['columns', 'table']),
+    (finding, 'least_sure', ['columns', 'table']), (finding, 'least_possible', ['columns', 'table']),
 ]
 OF_RULES = [
     (rules, 'is_rules', ['many', 'value']), (rules, 'obeys', ['many', 'rules', 'value']),
     (rules, 'follows', ['many', 'rules', 'kind', 'some']), (rules, 'reason', ['many', 'rules', 'kind', 'some']),
-    (rules, 'against', ['many', 'rules', 'kind', 'some']),
+    (rules, 'against', ['many', 'rules', 'kind', 'some']), (bars, 'least_keys', ['many', 'rules', 'kind']),
+    (bars, 'bars', ['many', 'rules', 'kind']), (exact, 'choices', ['many', 'rules', 'some']),
+    (exact, 'exact', ['many', 'rules']), (exact, 'choice_tree', ['many', 'rules']),
+    (exact, 'is_exact', ['many', 'rules', 'value']), (exact, 'is_choice_tree', ['many', 'rules', 'value']),
 ]
 INTERFACE = OF_ANY_VALUE + OF_TABLES + OF_RULES
-RETURN_LISTS = ['meetings', 'barred', 'settled']
+RETURN_LISTS = ['meetings', 'barred', 'settled', 'differences', 'least_sure', 'least_possible', 'least_keys', 'bars',
+                'choices']
 RETURN_BOOLS = ['can_meet', 'obeys', 'follows']
 
 RIGHT = {
@@ -77,6 +82,9 @@ def right_arguments(function, names):
     # A key is asked of a world only.
     if function.__name__ == 'is_key':
         right['table'] = ((5, 0), (6, 1))
+    # Choices are asked of a bar only.
+    if function.__name__ == 'choices':
+        right['some'] = (0, 2)
     return [right[name] for name in names]
 
 
@@ -138,6 +146,8 @@ class WrongArgumentsTest(unittest.TestCase):
             self.raises_exactly(errors.InvalidDemand, several.is_twin_tree, (MIXED, TABLE, None, value))
             self.raises_exactly(errors.InvalidNumber, rules.is_rules, (0, value))
             self.raises_exactly(errors.InvalidRules, rules.obeys, (3, None, value))
+            self.raises_exactly(errors.InvalidRules, exact.is_exact, (3, None, value))
+            self.raises_exactly(errors.InvalidRules, exact.is_choice_tree, (3, None, value))
 
     def test_right_for_other_columns_only(self):
         self.raises_exactly(errors.InvalidTable, meeting.is_sure, ((None,), TABLE, (0,)))
@@ -162,6 +172,12 @@ class WrongArgumentsTest(unittest.TestCase):
         self.raises_exactly(errors.InvalidNumber, entries.barred, (MIXED, TABLE, ((0,),), 3, 0))
         self.raises_exactly(errors.InvalidDemand, entries.barred, (MIXED, TABLE, (0,), 0, 0))
         self.raises_exactly(errors.InvalidTable, entries.barred, (MIXED, None, ((0,),), 0, 0))
+
+    def test_a_set_that_is_no_bar_comes_last(self):
+        rules_of_three = RIGHT['rules']
+        self.raises_exactly(errors.InvalidSet, exact.choices, (3, rules_of_three, (0, 1)))
+        self.raises_exactly(errors.InvalidRules, exact.choices, (2, rules_of_three, (0, 1)))
+        self.raises_exactly(errors.InvalidNumber, exact.choices, (0, rules_of_three, (0, 1)))
 
     def test_numbers_of_rows(self):
         for i in (2, 7, -1, -2, True, False):
@@ -216,6 +232,8 @@ class CallsTest(unittest.TestCase):
                 self.assertEqual(function(*arguments), again)
         self.assertIsNot(meeting.meetings(MIXED, (), ()), meeting.meetings(MIXED, (), ()))
         self.assertIsNot(entries.settled(MIXED, (), ()), entries.settled(MIXED, (), ()))
+        self.assertIsNot(bars.bars(2, ((), ((),), ()), 'sure'), bars.bars(2, ((), ((),), ()), 'sure'))
+        self.assertIsNot(finding.differences(MIXED, ()), finding.differences(MIXED, ()))
 
     def test_kinds_of_results(self):
         for function, arguments in self.each_call():

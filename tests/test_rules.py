@@ -7,24 +7,10 @@ from itertools import product
 from surekeys.errors import InvalidKind, InvalidNumber
 from surekeys.rules import against, follows, is_rules, obeys, reason
 from tests.judges import has_reason, is_ruled_key, reason_is_right, rules_are_right, ruled_table_is_right, table_obeys
-from tests.samples import WRONG_EVERYWHERE, all_sets, changed_somewhere, drawn_set
+from tests.samples import WRONG_EVERYWHERE, all_sets, changed_somewhere, each_drawn_rules
 
 KINDS = ('sure', 'possible')
 RULES = ((0,), ((0, 1),), ((0, 2),))
-
-
-def drawn_rules(draw, many):
-    share = draw.choice((0.2, 0.5, 0.7))
-    sets = [[tuple(k for k in range(many) if draw.random() < share) for _ in range(draw.choice((0, 1, 2, 3, 6)))]
-            for _ in range(2)]
-    return drawn_set(draw, many), tuple(sets[0]), tuple(sets[1])
-
-
-def each_drawn_rules(times, seed=1):
-    draw = random.Random(seed)
-    for number in range(times):
-        many = number % 4 + 1
-        yield many, drawn_rules(draw, many)
 
 
 def obeying_tables(many, rules, entries, rows):
@@ -83,7 +69,7 @@ class IsRulesTest(unittest.TestCase):
 
     def test_changed_rules(self):
         others = [0, 1, 2, 3, -1, None, 'sure', (), (0,), (1, 0), ((0,),), [0], ((1,),) * 6, ((1,),) * 7]
-        for many, rules in each_drawn_rules(60):
+        for many, rules in each_drawn_rules(60, seed=1):
             self.right(many, rules)
             for value in changed_somewhere(rules, others):
                 self.assertIs(is_rules(many, value), rules_are_right(many, value), (many, value))
