@@ -7,7 +7,7 @@ and the rows that hold all the parts that it could be given are a crowd.
 
 from surekeys.fillings import filled, new_value, with_entry
 from surekeys.needs import need_table_and_set
-from surekeys.shapes import is_ascending, is_number_below
+from surekeys.shapes import fits_rows
 
 
 def is_possible(columns, table, some):
@@ -19,15 +19,13 @@ def is_possible(columns, table, some):
 def key_world(columns, table, some):
     """A world in which the set is a key, or None."""
     need_table_and_set(columns, table, some)
-    parts, found = own_parts_or_crowd(columns, table, some)
-    return None if found is not None else world_of_parts(columns, table, some, parts)
+    return world_of_key(columns, table, some)
 
 
 def crowd(columns, table, some):
     """A crowd for the set, or None."""
     need_table_and_set(columns, table, some)
-    _, found = own_parts_or_crowd(columns, table, some)
-    return found
+    return crowd_of(columns, table, some)
 
 
 def is_crowd(columns, table, some, value):
@@ -37,8 +35,19 @@ def is_crowd(columns, table, some, value):
 
 
 def is_possible_key(columns, table, some):
+    return crowd_of(columns, table, some) is None
+
+
+def crowd_of(columns, table, some):
+    """A crowd for the set, or None."""
     _, found = own_parts_or_crowd(columns, table, some)
-    return found is None
+    return found
+
+
+def world_of_key(columns, table, some):
+    """A world in which the set is a key, or None."""
+    parts, found = own_parts_or_crowd(columns, table, some)
+    return None if found is not None else world_of_parts(columns, table, some, parts)
 
 
 def parts_of_row(columns, row, some):
@@ -92,11 +101,17 @@ def first_open_unknown(columns, row, some):
 
 def fits_crowd(columns, table, some, value):
     """Whether any value is a crowd for the set."""
-    if not isinstance(value, tuple) or len(value) < 2:
-        return False
-    if not all([is_number_below(i, len(table)) for i in value]) or not is_ascending(value):
-        return False
-    offers = [parts_of_row(columns, table[i], some) for i in value]
+    return are_several_rows(table, value) and shortfall(columns, table, some, value) > 0
+
+
+def are_several_rows(table, value):
+    """Whether any value is an ascending tuple of at least two different rows."""
+    return fits_rows(table, value) and len(value) >= 2
+
+
+def shortfall(columns, table, some, rows):
+    """The number of the rows less that of the different parts that they can have; 0 for endlessly many parts."""
+    offers = [parts_of_row(columns, table[i], some) for i in rows]
     if None in offers:
-        return False
-    return len({key for offer in offers for key in offer}) < len(value)
+        return 0
+    return len(rows) - len({key for offer in offers for key in offer})

@@ -47,8 +47,7 @@ def is_exact(many, rules, value):
 def is_choice_tree(many, rules, value):
     """True if the value is a choice tree, otherwise False."""
     need_rules(many, rules)
-    offers = offers_of(many, rules)
-    return fits_choice_tree(rules, offers, (None,) * len(offers), value)
+    return fits_whole_choice_tree(many, rules, value)
 
 
 def choices_for(rules, bar):
@@ -128,6 +127,12 @@ def has_just_the_keys(many, rules, table):
         if is_possible_by(likenesses, some) != set_follows(rules, "possible", some):
             return False
     return True
+
+
+def fits_whole_choice_tree(many, rules, value):
+    """Whether any value is a choice tree at whose beginning no choice is made."""
+    offers = offers_of(many, rules)
+    return fits_choice_tree(rules, offers, (None,) * len(offers), value)
 
 
 def fits_choice_tree(rules, offers, chosen, value):

@@ -5,8 +5,9 @@ Each check but the first trusts in the arguments that stand before its own.
 
 from surekeys.errors import InvalidColumns, InvalidDemand, InvalidKind, InvalidNumber, InvalidRules, InvalidSet
 from surekeys.errors import InvalidTable
-from surekeys.shapes import fits_columns, fits_demand, fits_kind, fits_many, fits_rules, fits_set_of, fits_table
-from surekeys.shapes import is_number_below
+from surekeys.faults import InvalidRows, InvalidWorths
+from surekeys.shapes import fits_columns, fits_demand, fits_kind, fits_many, fits_rows, fits_rules, fits_set_of
+from surekeys.shapes import fits_table, fits_worths, is_number_below
 
 
 def need_columns(columns):
@@ -53,6 +54,16 @@ def need_table_and_demand(columns, table, demand):
         raise InvalidDemand("this is not a tuple of at most 4 sets")
 
 
+def need_rows(table, rows):
+    if not fits_rows(table, rows):
+        raise InvalidRows("this is not an ascending tuple of different rows of the table")
+
+
+def need_worths(table, worths):
+    if not fits_worths(table, worths):
+        raise InvalidWorths("this is not a tuple with a value for each row of the table")
+
+
 def need_many(many):
     if not fits_many(many):
         raise InvalidNumber("this is not a number of columns from 1 to 4")
@@ -70,3 +81,9 @@ def need_rules_and_kind(many, rules, kind):
     need_rules(many, rules)
     if not fits_kind(kind):
         raise InvalidKind("a kind is one of the words sure and possible")
+
+
+def need_rules_kind_and_set(many, rules, kind, some):
+    """A right number of columns, key rules for so many, a kind and a set, in this order."""
+    need_rules_and_kind(many, rules, kind)
+    need_set_of(many, some)

@@ -1,9 +1,9 @@
 """Stage 7: key rules, what follows from them, and tables against it."""
 
-from surekeys.needs import need_many, need_rules, need_rules_and_kind, need_set_of
+from surekeys.needs import need_many, need_rules, need_rules_kind_and_set
 from surekeys.pairs import differences_of, likenesses_of
 from surekeys.sets import is_within, share_a_column
-from surekeys.shapes import fits_ruled_table, fits_rules
+from surekeys.shapes import fits_ruled_table, fits_rules, is_number_below
 
 
 def is_rules(many, value):
@@ -20,22 +20,19 @@ def obeys(many, rules, value):
 
 def follows(many, rules, kind, some):
     """True if the set follows, with this kind, otherwise False."""
-    need_rules_and_kind(many, rules, kind)
-    need_set_of(many, some)
+    need_rules_kind_and_set(many, rules, kind, some)
     return set_follows(rules, kind, some)
 
 
 def reason(many, rules, kind, some):
     """A reason for the set and the kind, or None."""
-    need_rules_and_kind(many, rules, kind)
-    need_set_of(many, some)
+    need_rules_kind_and_set(many, rules, kind, some)
     return reason_for(rules, kind, some)
 
 
 def against(many, rules, kind, some):
     """A table of two rows that obeys the rules and in which the set is no key of this kind, or None."""
-    need_rules_and_kind(many, rules, kind)
-    need_set_of(many, some)
+    need_rules_kind_and_set(many, rules, kind, some)
     return None if set_follows(rules, kind, some) else table_against(many, rules, kind, some)
 
 
@@ -49,10 +46,28 @@ def reason_for(rules, kind, some):
         if is_within(rule, some):
             return ("sure", k)
     for k, rule in enumerate(possible):
-        # A possible key whose entries are always known is a sure one.
-        if is_within(rule, some) and (kind == "possible" or is_within(rule, known)):
+        if possible_serves(known, kind, some, rule):
             return ("possible", k)
     return None
+
+
+def possible_serves(known, kind, some, rule):
+    """Whether the set follows, with this kind, from this one of the possible keys."""
+    # A possible key whose entries are always known is a sure one.
+    return is_within(rule, some) and (kind == "possible" or is_within(rule, known))
+
+
+def fits_reason(rules, kind, some, value):
+    """Whether any value is a reason for the set and the kind."""
+    if not isinstance(value, tuple) or len(value) != 2:
+        return False
+    known, sure, possible = rules
+    word, k = value
+    if word == "sure":
+        return is_number_below(k, len(sure)) and is_within(sure[k], some)
+    if word != "possible" or not is_number_below(k, len(possible)):
+        return False
+    return possible_serves(known, kind, some, possible[k])
 
 
 def table_against(many, rules, kind, some):
@@ -77,6 +92,13 @@ def table_obeys(rules, table):
 def knows(table, known):
     """Whether the table has no unknown entry in the known columns."""
     return all([row[k] is not None for row in table for k in known])
+
+
+def is_ruled_key(table, kind, some):
+    """Whether the set is a key of this kind of the table, all columns of which are open."""
+    if kind == "sure":
+        return is_sure_by(differences_of(table), some)
+    return is_possible_by(likenesses_of(table), some)
 
 
 def is_sure_by(differences, some):

@@ -73,9 +73,14 @@ def fits_set(columns, value):
 
 
 def fits_set_of(many, value):
+    return are_numbers_below(value, many)
+
+
+def are_numbers_below(value, limit):
+    """Whether the value is an ascending tuple of different numbers below the limit."""
     if not isinstance(value, tuple):
         return False
-    return all([is_number_below(k, many) for k in value]) and is_ascending(value)
+    return all([is_number_below(k, limit) for k in value]) and is_ascending(value)
 
 
 def fits_demand(columns, value):
@@ -111,3 +116,11 @@ def fits_ruled_table(many, value):
 
 def fits_kind(value):
     return value in KINDS
+
+
+def fits_rows(table, value):
+    return are_numbers_below(value, len(table))
+
+
+def fits_worths(table, value):
+    return isinstance(value, tuple) and len(value) == len(table) and all([is_value(worth) for worth in value])

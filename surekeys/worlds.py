@@ -46,6 +46,10 @@ def is_key_of_world(world, some):
     return len(set(parts)) == len(parts)
 
 
+def keeps_demand(world, demand):
+    return all([is_key_of_world(world, some) for some in demand])
+
+
 def part(row, some):
     """The tuple of the entries of the row in the columns of the set."""
     return tuple([row[k] for k in some])

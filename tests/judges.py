@@ -18,19 +18,55 @@ def parts_in_worlds(columns, row, some):
     return set(product(*[columns[k] if row[k] is None else (row[k],) for k in some]))
 
 
+def rows_are_right(table, value):
+    """Whether the value is rows of the table."""
+    if type(value) is not tuple or not all(is_number(i, len(table)) for i in value):
+        return False
+    return list(value) == sorted(set(value))
+
+
 def crowd_is_right(columns, table, some, value):
-    if type(value) is not tuple or len(value) < 2 or not all(is_number(i, len(table)) for i in value):
-        return False
-    parts = [parts_in_worlds(columns, table[i], some) for i in value]
-    if list(value) != sorted(set(value)) or None in parts:
-        return False
-    return len(set().union(*parts)) < len(value)
+    return rows_are_right(table, value) and len(value) >= 2 and short_by(columns, table, some, value) > 0
+
+
+def short_by(columns, table, some, rows):
+    """The shortfall of the rows if they are a crowd, otherwise a number that is not greater than 0."""
+    parts = [parts_in_worlds(columns, table[i], some) for i in rows]
+    return 0 if None in parts else len(rows) - len(set().union(*parts))
+
+
+def all_rows(table):
+    """All rows of the table, few first."""
+    return [rows for many in range(len(table) + 1) for rows in combinations(range(len(table)), many)]
+
+
+def all_crowds(columns, table, some):
+    return [rows for rows in all_rows(table) if crowd_is_right(columns, table, some, rows)]
 
 
 def has_crowd(columns, table, some):
-    rows = range(len(table))
-    return any(crowd_is_right(columns, table, some, value)
-               for many in range(2, len(table) + 1) for value in combinations(rows, many))
+    return any(crowd_is_right(columns, table, some, rows) for rows in all_rows(table))
+
+
+def all_keepable(columns, table, some):
+    """All keepable rows: a set is a possible key of rows alone exactly if no crowd is among them."""
+    crowds = [set(rows) for rows in all_crowds(columns, table, some)]
+    return [rows for rows in all_rows(table) if not any(crowd <= set(rows) for crowd in crowds)]
+
+
+def left_out(table, rows):
+    return [i for i in range(len(table)) if i not in rows]
+
+
+def block_is_right(columns, table, some, worths, rows, i, value):
+    if not crowd_is_right(columns, table, some, value) or i not in value:
+        return False
+    return all(j == i or j in rows and worths[j] >= worths[i] for j in value)
+
+
+def has_block(columns, table, some, worths, rows, i):
+    return any(block_is_right(columns, table, some, worths, rows, i, value)
+               for value in all_crowds(columns, table, some))
 
 
 def alike(table, i, j, some):

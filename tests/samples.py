@@ -153,3 +153,24 @@ def all_rules_of_two_columns():
     sets = all_sets(2)
     families = [tuple(family) for count in range(5) for family in combinations(sets, count)]
     return [(known, sure, possible) for known in sets for sure in families for possible in families]
+
+
+def drawn_close_case(draw):
+    """Columns, a table of up to 8 rows and a set: the rows share their parts, in chains too, and few have new ones."""
+    columns = tuple(draw.choice([(0, 1), (0, 1), (0, 3, 7), (4,), None]) for _ in range(draw.randint(1, 3)))
+    some = drawn_set(draw, len(columns)) if draw.random() < 0.3 else tuple(range(len(columns)))
+    table = ()
+    for _ in range(draw.choice((3, 5, 6, 7, 8))):
+        row = tuple(draw.choice(column or (0, 6)) for column in columns)
+        # Mostly in a closed column: an unknown entry in an open one gives a part that no other row has.
+        k = draw.randrange(len(columns))
+        if draw.random() < (0.6 if columns[k] else 0.2) and unknown_count(table) < 6:
+            row = row[:k] + (None,) + row[k + 1:]
+        table = table + (row,)
+    return columns, table, some
+
+
+def drawn_worths(draw, many):
+    """Worths of which some are equal."""
+    highest = draw.choice((1, 2, 9, 9, 10 ** 30))
+    return tuple(draw.choice((0, highest, draw.randint(0, highest), draw.randint(0, highest))) for _ in range(many))

@@ -6,12 +6,13 @@ import unittest
 from itertools import product
 
 from surekeys import columns as columns_file
-from surekeys import bars, crowds, entries, errors, exact, finding, meeting, rules, several, worlds
+from surekeys import (bars, checker, crowds, entries, errors, exact, faults, finding, kept, meeting, rules, several, worlds,
+                      worthy)
 from tests.samples import WRONG_EVERYWHERE
 
 MIXED = (None, (0, 1))
 TABLE = ((5, None), (5, 0), (6, 0))
-OF_ANY_VALUE = [(columns_file, 'is_columns', ['value'])]
+OF_ANY_VALUE = [(columns_file, 'is_columns', ['value']), (checker, 'check', ['certificate'])]
 OF_TABLES = [
     (columns_file, 'is_row', ['columns', 'value']), (columns_file, 'is_table', ['columns', 'value']),
     (columns_file, 'is_set', ['columns', 'value']), (columns_file, 'is_demand', ['columns', 'value']),
@@ -35,7 +36,14 @@ OF_RULES = [
     (exact, 'exact', ['many', 'rules']), (exact, 'choice_tree', ['many', 'rules']),
     (exact, 'is_exact', ['many', 'rules', 'value']), (exact, 'is_choice_tree', ['many', 'rules', 'value']),
 ]
-INTERFACE = OF_ANY_VALUE + OF_TABLES + OF_RULES
+OF_ROWS = [
+    (kept, 'is_keepable', ['columns', 'table', 'some', 'rows']), (kept, 'greatest_kept', ['columns', 'table', 'some']),
+    (kept, 'kept_world', ['columns', 'table', 'some', 'rows']), (kept, 'grown', ['columns', 'table', 'some', 'rows']),
+    (kept, 'exchange', ['columns', 'table', 'some', 'few', 'many']), (kept, 'spared', ['columns', 'table', 'some']),
+    (worthy, 'most_worth', ['columns', 'table', 'some', 'worths']),
+    (worthy, 'blocks_of', ['columns', 'table', 'some', 'worths', 'rows']),
+]
+INTERFACE = OF_ANY_VALUE + OF_TABLES + OF_RULES + OF_ROWS
 RETURN_LISTS = ['meetings', 'barred', 'settled', 'differences', 'least_sure', 'least_possible', 'least_keys', 'bars',
                 'choices']
 RETURN_BOOLS = ['can_meet', 'obeys', 'follows']
@@ -43,6 +51,8 @@ RETURN_BOOLS = ['can_meet', 'obeys', 'follows']
 RIGHT = {
     'columns': MIXED, 'table': TABLE, 'i': 0, 'j': 1, 'column': 1, 'some': (0,), 'demand': ((0, 1), (0,)),
     'many': 3, 'rules': ((0,), ((0, 1),), ((0, 2),)), 'kind': 'sure', 'value': ((5, 1), (5, 0), (6, 0)),
+    'certificate': ('key', MIXED, TABLE, ((0, 1),), ((5, 1), (5, 0), (6, 0))),
+    'rows': (0, 2), 'few': (1,), 'many rows': (0, 2), 'worths': (3, 0, 10 ** 29),
 }
 WRONG = {
     'columns': WRONG_EVERYWHERE + [(), (None,) * 5, [None, (0, 1)], (None, (1, 0)), (None, (0, 1, 2, 3)), (None, ())],
@@ -56,25 +66,35 @@ WRONG = {
     'rules': WRONG_EVERYWHERE + [(), ((), ()), ((), (), (), ()), ((3,), (), ()), ((1, 0), (), ()), [(), (), ()],
                                  ((), [], ()), ((), ((0,),) * 7, ()), ((), (), ((0,),) * 7), ((), ((True,),), ())],
     'kind': [value for value in WRONG_EVERYWHERE if value != 'sure'] + ['Sure', ('sure',), ['possible'], 0, 1],
+    'certificate': WRONG_EVERYWHERE + ['key', ('key',), list(RIGHT['certificate']), RIGHT['certificate'] + (0,)],
+    'rows': WRONG_EVERYWHERE + [(3,), (1, 0), (0, 0), (0, 1, 2, 3), 0, (0, True)],
+    'few': WRONG_EVERYWHERE + [(3,), (1, 0), (0, 0), (0, 1, 2, 3), 0, (0, True)],
+    'many rows': WRONG_EVERYWHERE + [(3,), (1, 0), (0, 0), (0, 1, 2, 3), 0, (0, True)],
+    'worths': WRONG_EVERYWHERE + [(), (1, 2), (1, 2, 3, 4), (1, 2, -1), (1, 2, True), [1, 2, 3], (1, 2, None), 3],
 }
 ERRORS = {
     'columns': errors.InvalidColumns, 'table': errors.InvalidTable, 'i': errors.InvalidNumber,
     'j': errors.InvalidNumber, 'column': errors.InvalidNumber, 'some': errors.InvalidSet,
     'demand': errors.InvalidDemand, 'many': errors.InvalidNumber, 'rules': errors.InvalidRules,
-    'kind': errors.InvalidKind,
+    'kind': errors.InvalidKind, 'certificate': errors.NotACertificate, 'rows': faults.InvalidRows,
+    'few': faults.InvalidRows, 'many rows': faults.InvalidRows, 'worths': faults.InvalidWorths,
 }
 # A few wrong values of each, to be combined: all of them together would be too many.
 FEW = {
     'columns': [[None], (), (None, True)], 'table': [[], ((5, 2),), ((True, 0),)], 'i': [True, -1, 3, '0'],
     'j': [False, -1, 3, [0]], 'column': [True, -1, 2], 'some': [0, [0], (3,), (1, 0), (True,)],
     'demand': [[], ((3,),), ((0,),) * 5], 'many': [0, 5, True, '3'], 'rules': [(), ((), (), []), ((4,), (), ())],
-    'kind': ['Sure', 0, ()],
+    'kind': ['Sure', 0, ()], 'certificate': [(), 'key', ('key', MIXED, TABLE)], 'rows': [0, (3,), (1, 0), (True,)],
+    'few': [0, (3,), (1, 0)], 'many rows': [0, (3,), (1, 0)], 'worths': [(1, 2), (1, 2, True), [1, 2, 3]],
 }
 
 
 def each_function():
+    """Each function of the interface, and what is asked of its arguments, by their names for the most part."""
     for file, name, names in INTERFACE:
-        yield getattr(file, name), names
+        # Only here, many is not a number of columns.
+        asked = ['many rows' if (name, argument) == ('exchange', 'many') else argument for argument in names]
+        yield getattr(file, name), asked
 
 
 def right_arguments(function, names):
@@ -178,6 +198,14 @@ class WrongArgumentsTest(unittest.TestCase):
         self.raises_exactly(errors.InvalidSet, exact.choices, (3, rules_of_three, (0, 1)))
         self.raises_exactly(errors.InvalidRules, exact.choices, (2, rules_of_three, (0, 1)))
         self.raises_exactly(errors.InvalidNumber, exact.choices, (0, rules_of_three, (0, 1)))
+
+    def test_rows_that_are_not_keepable_come_last(self):
+        self.raises_exactly(faults.InvalidRows, kept.grown, (MIXED, TABLE, (0,), (0, 1)))
+        self.raises_exactly(errors.InvalidSet, kept.grown, (MIXED, TABLE, (2,), (0, 1)))
+        self.raises_exactly(errors.InvalidTable, kept.grown, (MIXED, TABLE[0], (0,), (0, 1)))
+        self.raises_exactly(faults.InvalidRows, kept.exchange, (MIXED, TABLE, (0,), (0, 1), (0, 1)))
+        self.raises_exactly(errors.InvalidSet, kept.exchange, (MIXED, TABLE, 0, (0, 1), (0, 1)))
+        self.raises_exactly(errors.InvalidColumns, kept.exchange, ((), TABLE, 0, (0, 1), (0, 1)))
 
     def test_numbers_of_rows(self):
         for i in (2, 7, -1, -2, True, False):
