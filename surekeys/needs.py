@@ -5,9 +5,9 @@ Each check but the first trusts in the arguments that stand before its own.
 
 from surekeys.errors import InvalidColumns, InvalidDemand, InvalidKind, InvalidNumber, InvalidRules, InvalidSet
 from surekeys.errors import InvalidTable
-from surekeys.faults import InvalidRows, InvalidWorths
-from surekeys.shapes import fits_columns, fits_demand, fits_kind, fits_many, fits_rows, fits_rules, fits_set_of
-from surekeys.shapes import fits_table, fits_worths, is_number_below
+from surekeys.faults import InvalidHeld, InvalidRows, InvalidWorths
+from surekeys.shapes import fits_columns, fits_demand, fits_held, fits_kind, fits_many, fits_rows, fits_rules
+from surekeys.shapes import fits_set_of, fits_table, fits_worths, is_number_below
 
 
 def need_columns(columns):
@@ -62,6 +62,19 @@ def need_rows(table, rows):
 def need_worths(table, worths):
     if not fits_worths(table, worths):
         raise InvalidWorths("this is not a tuple with a value for each row of the table")
+
+
+def need_held(columns, table, held):
+    """Right columns, a table of them and held entries of it, in this order."""
+    need_table(columns, table)
+    if not fits_held(table, held):
+        raise InvalidHeld("this is not an ascending tuple of different places of known entries")
+
+
+def need_held_and_set(columns, table, held, some):
+    """Right columns, a table of them, held entries of it and a set, in this order."""
+    need_held(columns, table, held)
+    need_set(columns, some)
 
 
 def need_many(many):

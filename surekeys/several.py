@@ -38,11 +38,19 @@ def can_be_kept(columns, table, demand):
 
 def world_or_tree(columns, table, demand):
     """A tuple (world, None) with a world that keeps the demand, or (None, tree) with a tree that is right."""
+    twins = twins_of(table, demand)
+    if twins is not None:
+        return None, twins
+    return grown_world_or_tree(columns, table, demand, places_to_fill(columns, table, demand))
+
+
+def twins_of(table, demand):
+    """Any twins, or None."""
     for i in range(len(table)):
         twins = twins_with(table, demand, i)
         if twins is not None:
-            return None, twins
-    return grown_world_or_tree(columns, table, demand, places_to_fill(columns, table, demand))
+            return twins
+    return None
 
 
 def twins_with(table, demand, i):

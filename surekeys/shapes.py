@@ -26,9 +26,9 @@ def is_number_below(value, limit):
     return is_value(value) and value < limit
 
 
-def is_ascending(integers):
-    """Whether each of the integers is less than the next one; so none stands there twice."""
-    return all([integers[k] < integers[k + 1] for k in range(len(integers) - 1)])
+def is_ascending(items):
+    """Whether each of the items is less than the next one; so none stands there twice."""
+    return all([items[k] < items[k + 1] for k in range(len(items) - 1)])
 
 
 def is_closed_column(value):
@@ -124,3 +124,15 @@ def fits_rows(table, value):
 
 def fits_worths(table, value):
     return isinstance(value, tuple) and len(value) == len(table) and all([is_value(worth) for worth in value])
+
+
+def fits_held(table, value):
+    return isinstance(value, tuple) and all([is_known_place(table, place) for place in value]) and is_ascending(value)
+
+
+def is_known_place(table, value):
+    """Whether any value is a tuple (row, column), the place of a known entry."""
+    if not isinstance(value, tuple) or len(value) != 2:
+        return False
+    i, k = value
+    return is_number_below(i, len(table)) and is_number_below(k, len(table[i])) and table[i][k] is not None

@@ -22,10 +22,18 @@ def is_key(columns, table, some):
 def world_count(columns, table):
     """The number of the worlds of the table, or None if there are endlessly many."""
     need_table(columns, table)
+    return None if has_open_unknown(columns, table) else number_of_worlds(columns, table)
+
+
+def has_open_unknown(columns, table):
+    """Whether an entry of an open column is unknown."""
+    return any([columns[k] is None for _, k in unknown_places(table)])
+
+
+def number_of_worlds(columns, table):
+    """The number of the worlds of a table without unknown entries in open columns."""
     count = 1
     for _, k in unknown_places(table):
-        if columns[k] is None:
-            return None
         count = count * len(columns[k])
     return count
 

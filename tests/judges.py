@@ -226,3 +226,132 @@ def offered_tree_is_right(rules, offers, made, value):
         return False
     return all(offered_tree_is_right(rules, offers, {**made, one: choice}, tree)
                for choice, tree in zip(offers[one], two))
+
+
+def payment(row, some, target):
+    return sum(row[k] is not None and row[k] != value for k, value in zip(some, target))
+
+
+def reaches(held, i, row, some, target):
+    return all((i, k) not in held or row[k] == value for k, value in zip(some, target))
+
+
+def target_pool(columns, table, some, others=(), new=1):
+    """Targets of the set: in open columns only those values that stand in the table or in the others, and new ones.
+
+    Values that stand nowhere are alike for all rows, so what holds for the new ones holds for all of them.
+    """
+    choices = []
+    for place, k in enumerate(some):
+        seen = {row[k] for row in table if row[k] is not None} | {target[place] for target in others}
+        fresh = max(seen, default=-1) + 1
+        choices.append(sorted(seen) + list(range(fresh, fresh + new)) if columns[k] is None else columns[k])
+    return list(product(*choices))
+
+
+def held_is_right(table, value):
+    if type(value) is not tuple:
+        return False
+    for place in value:
+        if type(place) is not tuple or len(place) != 2 or not is_number(place[0], len(table)):
+            return False
+        if not is_number(place[1], len(table[place[0]])) or table[place[0]][place[1]] is None:
+            return False
+    return list(value) == sorted(set(value))
+
+
+def changes_are_right(columns, table, held, value):
+    if type(value) is not tuple:
+        return False
+    for change in value:
+        if type(change) is not tuple or len(change) != 3 or not held_is_right(table, (change[:2],)):
+            return False
+        i, k, entry = change
+        if not is_integer(entry) or entry < 0 or entry == table[i][k] or (i, k) in held:
+            return False
+        if columns[k] is not None and entry not in columns[k]:
+            return False
+    places = [change[:2] for change in value]
+    return list(value) == sorted(value) and len(set(places)) == len(places)
+
+
+def least_paid(columns, table, held, some):
+    """The least that the rows pay if each is given a target of its own, by all ways to do so, or None."""
+    pool = target_pool(columns, table, some, new=len(table))
+    offers = [{target: payment(row, some, target) for target in pool if reaches(held, i, row, some, target)}
+              for i, row in enumerate(table)]
+    return least_of_ways([sorted(offer.items(), key=lambda item: item[1]) for offer in offers], (), 1000)
+
+
+def least_of_ways(offers, used, bound):
+    """The least that is less than the bound, or None."""
+    if not offers:
+        return 0
+    found = None
+    for target, paid in offers[0]:
+        if paid >= bound:
+            return found
+        rest = None if target in used else least_of_ways(offers[1:], used + (target,), bound - paid)
+        if rest is not None:
+            found = bound = paid + rest
+    return found
+
+
+def stuck_rows_are_right(columns, table, held, some, value):
+    if not rows_are_right(table, value) or len(value) < 2:
+        return False
+    # With as many new values as rows, targets that are endlessly many are too many for these.
+    pool = target_pool(columns, table, some, new=len(value))
+    return sum(any(reaches(held, i, table[i], some, target) for i in value) for target in pool) < len(value)
+
+
+def prices_are_right(columns, table, held, some, value):
+    if type(value) is not tuple or len(value) != 2 or not all(type(part) is tuple for part in value):
+        return False
+    of_rows, of_targets = value
+    if len(of_rows) != len(table) or not all(is_integer(number) for number in of_rows):
+        return False
+    for entry in of_targets:
+        if type(entry) is not tuple or len(entry) != 2 or not is_integer(entry[1]) or entry[1] <= 0:
+            return False
+        if type(entry[0]) is not tuple or len(entry[0]) != len(some):
+            return False
+        if not all(is_integer(v) and v >= 0 and (columns[k] is None or v in columns[k]) for k, v in zip(some, entry[0])):
+            return False
+    targets = [target for target, _ in of_targets]
+    if list(of_targets) != sorted(of_targets) or len(set(targets)) != len(targets):
+        return False
+    listed = dict(of_targets)
+    return all(of_rows[i] - listed.get(target, 0) <= payment(row, some, target)
+               for target in target_pool(columns, table, some, targets)
+               for i, row in enumerate(table) if reaches(held, i, row, some, target))
+
+
+def price_sum(value):
+    return sum(value[0]) - sum(price for _, price in value[1])
+
+
+def has_open_unknown(columns, table):
+    return any(row[k] is None and columns[k] is None for row in table for k in range(len(columns)))
+
+
+def count_tree_number(columns, table, demand, value):
+    """The number of the value, if it is a count tree, otherwise None."""
+    if has_open_unknown(columns, table) or type(value) is not tuple or not value or type(value[0]) is not str:
+        return None
+    if value == ('sure',):
+        meet = any(all(None in (one[k], two[k]) or one[k] == two[k] for k in some)
+                   for some in demand for one, two in combinations(table, 2))
+        unknown = [columns[k] for row in table for k, entry in enumerate(row) if entry is None]
+        return None if meet else len(list(product(*unknown)))
+    if len(value) != 4:
+        return None
+    if value[0] == 'twins':
+        return 0 if tree_is_right(columns, table, demand, value) else None
+    word, i, k, trees = value
+    if word != 'split' or not is_number(i, len(table)) or not is_number(k, len(columns)) or table[i][k] is not None:
+        return None
+    if type(trees) is not tuple or len(trees) != len(columns[k]):
+        return None
+    numbers = [count_tree_number(columns, put(table, i, k, entry), demand, tree) for entry, tree in zip(columns[k], trees)]
+    return None if None in numbers else sum(numbers)

@@ -174,3 +174,17 @@ def drawn_worths(draw, many):
     """Worths of which some are equal."""
     highest = draw.choice((1, 2, 9, 9, 10 ** 30))
     return tuple(draw.choice((0, highest, draw.randint(0, highest), draw.randint(0, highest))) for _ in range(many))
+
+
+def known_places(table):
+    return tuple((i, k) for i, row in enumerate(table) for k, entry in enumerate(row) if entry is not None)
+
+
+def drawn_held(draw, table):
+    """Held entries: none, a few, a whole column, most or all."""
+    places = known_places(table)
+    share = draw.choice((0, 0, 0.2, 0.5, 0.8, 1))
+    if draw.random() < 0.2 and table:
+        column = draw.randrange(len(table[0]))
+        return tuple((i, k) for i, k in places if k == column)
+    return tuple(place for place in places if draw.random() < share)

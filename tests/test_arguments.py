@@ -6,13 +6,14 @@ import unittest
 from itertools import product
 
 from surekeys import columns as columns_file
-from surekeys import (bars, checker, crowds, entries, errors, exact, faults, finding, kept, meeting, rules, several, worlds,
-                      worthy)
+from surekeys import (bars, changes, checker, counts, crowds, entries, errors, exact, faults, finding, kept, meeting, papers,
+                      rules, several, worlds, worthy)
 from tests.samples import WRONG_EVERYWHERE
 
 MIXED = (None, (0, 1))
 TABLE = ((5, None), (5, 0), (6, 0))
-OF_ANY_VALUE = [(columns_file, 'is_columns', ['value']), (checker, 'check', ['certificate'])]
+OF_ANY_VALUE = [(columns_file, 'is_columns', ['value']), (checker, 'check', ['certificate']),
+                (papers, 'check_paper', ['paper'])]
 OF_TABLES = [
     (columns_file, 'is_row', ['columns', 'value']), (columns_file, 'is_table', ['columns', 'value']),
     (columns_file, 'is_set', ['columns', 'value']), (columns_file, 'is_demand', ['columns', 'value']),
@@ -42,17 +43,25 @@ OF_ROWS = [
     (kept, 'exchange', ['columns', 'table', 'some', 'few', 'many']), (kept, 'spared', ['columns', 'table', 'some']),
     (worthy, 'most_worth', ['columns', 'table', 'some', 'worths']),
     (worthy, 'blocks_of', ['columns', 'table', 'some', 'worths', 'rows']),
+    (changes, 'are_changes', ['columns', 'table', 'held', 'value']), (changes, 'changed', ['columns', 'table', 'changes']),
+    (changes, 'fewest_changes', ['columns', 'table', 'held', 'some']),
+    (changes, 'stuck_rows', ['columns', 'table', 'held', 'some']), (changes, 'prices', ['columns', 'table', 'held', 'some']),
+    (changes, 'are_prices', ['columns', 'table', 'held', 'some', 'value']),
+    (counts, 'kept_count', ['columns', 'table', 'demand']), (counts, 'count_tree', ['columns', 'table', 'demand']),
+    (counts, 'tree_number', ['columns', 'table', 'demand', 'value']),
+    (counts, 'value_counts', ['columns', 'table', 'demand']),
 ]
 INTERFACE = OF_ANY_VALUE + OF_TABLES + OF_RULES + OF_ROWS
 RETURN_LISTS = ['meetings', 'barred', 'settled', 'differences', 'least_sure', 'least_possible', 'least_keys', 'bars',
-                'choices']
-RETURN_BOOLS = ['can_meet', 'obeys', 'follows']
+                'choices', 'value_counts']
+RETURN_BOOLS = ['can_meet', 'obeys', 'follows', 'are_changes', 'are_prices']
 
 RIGHT = {
     'columns': MIXED, 'table': TABLE, 'i': 0, 'j': 1, 'column': 1, 'some': (0,), 'demand': ((0, 1), (0,)),
     'many': 3, 'rules': ((0,), ((0, 1),), ((0, 2),)), 'kind': 'sure', 'value': ((5, 1), (5, 0), (6, 0)),
     'certificate': ('key', MIXED, TABLE, ((0, 1),), ((5, 1), (5, 0), (6, 0))),
     'rows': (0, 2), 'few': (1,), 'many rows': (0, 2), 'worths': (3, 0, 10 ** 29),
+    'held': ((0, 0), (1, 1)), 'changes': ((1, 0, 6), (2, 1, 1)), 'paper': ('stuck', MIXED, TABLE, (), (), (0, 1)),
 }
 WRONG = {
     'columns': WRONG_EVERYWHERE + [(), (None,) * 5, [None, (0, 1)], (None, (1, 0)), (None, (0, 1, 2, 3)), (None, ())],
@@ -71,6 +80,13 @@ WRONG = {
     'few': WRONG_EVERYWHERE + [(3,), (1, 0), (0, 0), (0, 1, 2, 3), 0, (0, True)],
     'many rows': WRONG_EVERYWHERE + [(3,), (1, 0), (0, 0), (0, 1, 2, 3), 0, (0, True)],
     'worths': WRONG_EVERYWHERE + [(), (1, 2), (1, 2, 3, 4), (1, 2, -1), (1, 2, True), [1, 2, 3], (1, 2, None), 3],
+    'held': WRONG_EVERYWHERE + [
+        ((0, 1),), ((3, 0),), ((0, 2),), ((0, 0), (0, 0)), ((1, 1), (0, 0)), [(0, 0)], ([0, 0],), ((0, False),), ((0,),),
+        ((0, 0, 0),), (0, 0), ((-1, 0),), 0],
+    'changes': WRONG_EVERYWHERE + [
+        ((0, 1, 0),), ((0, 0, 5),), ((1, 1, 2),), ((1, 0, 6), (1, 0, 7)), ((1, 1, 1), (1, 0, 6)), [(1, 0, 6)], ([1, 0, 6],),
+        ((1, 0),), ((1, 0, 6, 6),), (1, 0, 6), ((True, 0, 6),), ((1, 1, True),), ((3, 0, 6),), ((1, 0, None),), 0],
+    'paper': WRONG_EVERYWHERE + ['stuck', ('stuck',), list(RIGHT['paper']), RIGHT['paper'] + (0,), RIGHT['certificate']],
 }
 ERRORS = {
     'columns': errors.InvalidColumns, 'table': errors.InvalidTable, 'i': errors.InvalidNumber,
@@ -78,6 +94,7 @@ ERRORS = {
     'demand': errors.InvalidDemand, 'many': errors.InvalidNumber, 'rules': errors.InvalidRules,
     'kind': errors.InvalidKind, 'certificate': errors.NotACertificate, 'rows': faults.InvalidRows,
     'few': faults.InvalidRows, 'many rows': faults.InvalidRows, 'worths': faults.InvalidWorths,
+    'held': faults.InvalidHeld, 'changes': faults.InvalidChanges, 'paper': faults.NotAPaper,
 }
 # A few wrong values of each, to be combined: all of them together would be too many.
 FEW = {
@@ -86,6 +103,8 @@ FEW = {
     'demand': [[], ((3,),), ((0,),) * 5], 'many': [0, 5, True, '3'], 'rules': [(), ((), (), []), ((4,), (), ())],
     'kind': ['Sure', 0, ()], 'certificate': [(), 'key', ('key', MIXED, TABLE)], 'rows': [0, (3,), (1, 0), (True,)],
     'few': [0, (3,), (1, 0)], 'many rows': [0, (3,), (1, 0)], 'worths': [(1, 2), (1, 2, True), [1, 2, 3]],
+    'held': [((0, 1),), [(0, 0)], ((1, 1), (0, 0))], 'changes': [((0, 1, 0),), [], ((0, 0, 5),)],
+    'paper': [(), 'stuck', RIGHT['paper'][:5]],
 }
 
 
@@ -207,6 +226,16 @@ class WrongArgumentsTest(unittest.TestCase):
         self.raises_exactly(errors.InvalidSet, kept.exchange, (MIXED, TABLE, 0, (0, 1), (0, 1)))
         self.raises_exactly(errors.InvalidColumns, kept.exchange, ((), TABLE, 0, (0, 1), (0, 1)))
 
+    def test_held_entries_come_before_the_set(self):
+        for function in (changes.fewest_changes, changes.stuck_rows, changes.prices):
+            self.raises_exactly(faults.InvalidHeld, function, (MIXED, TABLE, ((0, 1),), (2,)))
+            self.raises_exactly(errors.InvalidSet, function, (MIXED, TABLE, ((0, 0),), (2,)))
+            self.raises_exactly(errors.InvalidTable, function, (MIXED, TABLE[0], ((0, 1),), (2,)))
+        self.raises_exactly(faults.InvalidHeld, changes.are_prices, (MIXED, TABLE, ((0, 1),), (2,), None))
+        self.raises_exactly(errors.InvalidSet, changes.are_prices, (MIXED, TABLE, (), (2,), None))
+        self.raises_exactly(faults.InvalidHeld, changes.are_changes, (MIXED, TABLE, ((0, 1),), None))
+        self.raises_exactly(errors.InvalidTable, changes.changed, (MIXED, None, None))
+
     def test_numbers_of_rows(self):
         for i in (2, 7, -1, -2, True, False):
             self.raises_exactly(errors.InvalidNumber, meeting.can_meet, (MIXED, ((5, 0), (5, 1)), i, 0, (0,)))
@@ -262,6 +291,7 @@ class CallsTest(unittest.TestCase):
         self.assertIsNot(entries.settled(MIXED, (), ()), entries.settled(MIXED, (), ()))
         self.assertIsNot(bars.bars(2, ((), ((),), ()), 'sure'), bars.bars(2, ((), ((),), ()), 'sure'))
         self.assertIsNot(finding.differences(MIXED, ()), finding.differences(MIXED, ()))
+        self.assertIsNot(counts.value_counts(MIXED, (), ()), counts.value_counts(MIXED, (), ()))
 
     def test_kinds_of_results(self):
         for function, arguments in self.each_call():
