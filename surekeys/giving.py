@@ -41,7 +41,7 @@ def ways_to_rows(costs, owners, i):
         shortened = False
         for j in list(ways):
             paid, steps = ways[j]
-            for target in [target for target in costs[j] if owners.get(target, j) != j]:
+            for target in [key for key in costs[j] if owners.get(key, j) != j]:
                 owner = owners[target]
                 # What the owner paid for the target is saved.
                 added = paid + costs[j][target] - costs[owner][target]

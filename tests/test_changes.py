@@ -278,7 +278,8 @@ class PricesTest(Cases):
             self.wrong(case, (numbers, listed))
 
     def test_all_kinds_of_values(self):
-        for case in [(BITS, SQUARE, (), (0, 1)), (BITS, SQUARE, (), ()), (MIXED, (), (), (0,)), ((None,), ((5,),), (), (0,))]:
+        for case in [(BITS, SQUARE, (), (0, 1)), (BITS, SQUARE, (), ()), (MIXED, (), (), (0,)),
+                     ((None,), ((5,),), (), (0,))]:
             self.wrong(case, *WRONG_EVERYWHERE)
             self.wrong(case, (), ((),), ((), (), ()), [(), ()], ('', ''))
 

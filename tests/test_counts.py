@@ -195,7 +195,8 @@ class TreeTest(Cases):
             ('split', 0, 0, (('twins', 0, 1, 0), 'sure')), ('split', 0, 0, (('twins', 0, 1, 0), ['sure'])),
             ('split', 0, 0, (('twins', 0, 1, 0), ('sure', 0))), ('split', 0, 0, (('twins', 0, True, 0), ('sure',))),
             ('split', 0, 0, (('twins', 0, 1, False), ('sure',))), ('split', 0, 0, (('twins', 0, 1, 0), None)),
-            ('split', 0, 0, (('sure',), ('sure',))), ('split', 0, 0, (('twins', 0, 1, 0),) * 2), ('choose', 0, ()), (['sure'],),
+            ('split', 0, 0, (('sure',), ('sure',))), ('split', 0, 0, (('twins', 0, 1, 0),) * 2), ('choose', 0, ()),
+            (['sure'],),
         ]
         self.tells(None, BITS, TABLE, ((0,),), *values)
         self.tells(None, BITS, TABLE, ((0,),), *WRONG_EVERYWHERE)
@@ -219,7 +220,8 @@ class TreeTest(Cases):
         for columns, table, demand in each_drawn_case(250, seed=104):
             tree = count_tree(columns, table, demand)
             if tree is not None:
-                changes = list(changed_somewhere(tree, [0, 1, 2, 4, -1, None, 'sure', ('sure',), (), [0], ('twins', 0, 1, 0)]))
+                others = [0, 1, 2, 4, -1, None, 'sure', ('sure',), (), [0], ('twins', 0, 1, 0)]
+                changes = list(changed_somewhere(tree, others))
                 for value in draw.sample(changes, min(40, len(changes))):
                     expected = count_tree_number(columns, table, demand, value)
                     self.tells(expected, columns, table, demand, value)

@@ -5,48 +5,23 @@ import unittest
 
 from surekeys.desk import Desk
 from surekeys.entries import barred, settled
-from surekeys.errors import (Full, Impossible, InvalidEntry, InvalidMark, InvalidNumber, InvalidRow, InvalidSet,
-                             InvalidValue, KeyRuleError)
+from surekeys.errors import InvalidEntry, InvalidNumber, InvalidRow, InvalidSet, InvalidValue
 from surekeys.several import common_world
 from surekeys.worlds import is_world
 from tests.judges import tree_is_right
+from tests.models import RowsModel, outcome
 from tests.samples import WRONG_EVERYWHERE, drawn_set, keeps, some_worlds, unknown_count
 
 
-class Model:
-    """What a desk has to be, written as plainly as can be."""
+class Model(RowsModel):
+    """What a desk has to be."""
 
     def __init__(self, columns):
-        self.columns, self.named, self.sets, self.seen, self.marks, self.next = columns, [], [], [], [], 0
-
-    def rows(self):
-        return tuple(row for _, row in self.named)
-
-    def names(self):
-        return [name for name, _ in self.named]
+        super().__init__(columns)
+        self.sets, self.seen = [], []
 
     def settled(self):
         return [(self.names()[i], k, value) for i, k, value in settled(self.columns, self.rows(), tuple(self.sets))]
-
-    def is_name(self, name):
-        return type(name) is int and name in self.names()
-
-    def is_column(self, column):
-        return type(column) is int and 0 <= column < len(self.columns)
-
-    def entry(self, name, column):
-        return dict(self.named)[name][column]
-
-    def is_value(self, column, value):
-        domain = self.columns[column]
-        return type(value) is int and value >= 0 and (domain is None or value in domain)
-
-    def is_row(self, row):
-        return type(row) is tuple and len(row) == len(self.columns) and all(
-            entry is None or self.is_value(k, entry) for k, entry in enumerate(row))
-
-    def with_entry(self, name, column, value):
-        return [(other, row[:column] + (value,) + row[column + 1:] if other == name else row) for other, row in self.named]
 
     def refusal(self, named, sets):
         """Impossible with the rows and the demand as they would be, or None."""
@@ -55,47 +30,15 @@ class Model:
         return None if possible else ('impossible', rows, tuple(sets))
 
     def put(self, row):
-        if not self.is_row(row):
-            return InvalidRow
-        if len(self.named) == 8:
-            return 'full', 8
-        named = self.named + [(self.next, row)]
-        if unknown_count(self.rows() + (row,)) > 6:
-            return 'full', 6
-        refusal = self.refusal(named, self.sets)
-        if refusal:
-            return refusal
-        self.named, self.next = named, self.next + 1
-        return 'returned', self.next - 1
-
-    def take(self, name):
-        if not self.is_name(name):
-            return InvalidNumber
-        self.named = [(other, row) for other, row in self.named if other != name]
-        return 'returned', None
+        refusal = self.refused_row(row) or self.refusal(self.named + [(self.next, row)], self.sets)
+        return refusal or self.add(row)
 
     def fill(self, name, column, value):
-        if not self.is_name(name) or not self.is_column(column):
-            return InvalidNumber
-        if self.entry(name, column) is not None:
-            return InvalidEntry
-        if not self.is_value(column, value):
-            return InvalidValue
-        named = self.with_entry(name, column, value)
-        refusal = self.refusal(named, self.sets)
+        refusal = self.refused_entry(name, column, value)
+        refusal = refusal or self.refusal(self.with_entry(name, column, value), self.sets)
         if refusal:
             return refusal
-        self.named = named
-        return 'returned', None
-
-    def forget(self, name, column):
-        if not self.is_name(name) or not self.is_column(column):
-            return InvalidNumber
-        if self.entry(name, column) is None:
-            return InvalidEntry
-        if unknown_count(self.rows()) == 6:
-            return 'full', 6
-        self.named = self.with_entry(name, column, None)
+        self.named = self.with_entry(name, column, value)
         return 'returned', None
 
     def demand(self, some):
@@ -116,7 +59,7 @@ class Model:
         return 'returned', None
 
     def barred(self, name, column):
-        if not self.is_name(name) or not self.is_column(column):
+        if not self.is_place(name, column):
             return InvalidNumber
         if self.entry(name, column) is not None:
             return InvalidEntry
@@ -130,13 +73,10 @@ class Model:
         return 'returned', found
 
     def mark(self):
-        if len(self.marks) == 6:
-            return 'full', 6
-        self.marks = self.marks + [(self.named, self.sets, self.seen)]
-        return 'returned', len(self.marks) - 1
+        return self.add_mark(self.sets, self.seen)
 
     def back(self, number):
-        if type(number) is not int or not 0 <= number < len(self.marks):
+        if self.no_mark(number):
             return 'mark', number
         self.named, self.sets, self.seen = self.marks[number]
         self.marks = self.marks[:number + 1]
@@ -169,20 +109,6 @@ def drawn_call(draw, model):
 
 def drawn_desk_columns(draw):
     return tuple(draw.choice([None, (0, 1), (0, 1), (0, 3, 7), (4,)]) for _ in range(draw.randint(1, 4)))
-
-
-def outcome(desk, method, arguments):
-    """What the call returns or raises, in the words of the model."""
-    try:
-        return 'returned', getattr(desk, method)(*arguments)
-    except Full as error:
-        return 'full', error.limit
-    except Impossible as error:
-        return 'impossible', error.tree
-    except InvalidMark as error:
-        return 'mark', error.number
-    except KeyRuleError as error:
-        return type(error)
 
 
 def history(seed, calls):

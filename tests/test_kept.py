@@ -226,6 +226,10 @@ class RefusalsTest(unittest.TestCase):
         self.refused(exchange, MIXED, table, (0,), (0,), (0, 1))
         self.refused(exchange, MIXED, table, (0,), (0,), (1, 2, 3))
         self.refused(exchange, MIXED, table, (0,), (0, 2), (0, 3))
+        # Only few are not keepable: many are, and are more.
+        table = ((5, 0), (5, 1), (6, 1), (7, 1))
+        self.refused(exchange, MIXED, table, (0,), (0, 1), (0, 2, 3))
+        self.refused(exchange, MIXED, table, (0,), (0, 1), (1, 2, 3))
 
     def test_not_fewer(self):
         table = ((5, 0), (5, 1), (6, 1))

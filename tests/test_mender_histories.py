@@ -5,86 +5,32 @@ import unittest
 from collections import Counter
 
 from surekeys.desk import Desk
-from surekeys.errors import (Full, Impossible, InvalidEntry, InvalidMark, InvalidNumber, InvalidRow, InvalidValue,
-                             KeyRuleError)
+from surekeys.errors import Impossible, InvalidEntry, InvalidNumber, InvalidRow, InvalidValue
 from surekeys.mender import Mender
 from surekeys.worlds import is_world
 from tests.judges import all_keepable, block_is_right
+from tests.models import RowsModel, outcome
 from tests.samples import WRONG_EVERYWHERE, drawn_set, equal_rows, unknown_count
 
 
-class Model:
-    """What a mender has to be but for the choice of the rows that it keeps, written as plainly as can be."""
+class Model(RowsModel):
+    """What a mender has to be but for the choice of the rows that it keeps."""
 
     def __init__(self, columns, some):
-        self.columns, self.some, self.named, self.marks, self.next = columns, some, [], [], 0
-
-    def rows(self):
-        return tuple(row for _, row, _ in self.named)
-
-    def names(self):
-        return [name for name, _, _ in self.named]
+        super().__init__(columns)
+        self.some = some
 
     def worths(self):
         return tuple(worth for _, _, worth in self.named)
 
-    def is_name(self, name):
-        return type(name) is int and name in self.names()
-
-    def is_column(self, column):
-        return type(column) is int and 0 <= column < len(self.columns)
-
-    def entry(self, name, column):
-        return self.rows()[self.names().index(name)][column]
-
-    def is_value(self, column, value):
-        domain = self.columns[column]
-        return type(value) is int and value >= 0 and (domain is None or value in domain)
-
-    def is_row(self, row):
-        return type(row) is tuple and len(row) == len(self.columns) and all(
-            entry is None or self.is_value(k, entry) for k, entry in enumerate(row))
-
-    def set_entry(self, name, column, value):
-        self.named = [(other, row[:column] + (value,) + row[column + 1:] if other == name else row, worth)
-                      for other, row, worth in self.named]
-
     def put(self, row, worth):
-        if not self.is_row(row):
-            return InvalidRow
-        if type(worth) is not int or worth < 0:
-            return InvalidValue
-        if len(self.named) == 8:
-            return 'full', 8
-        if unknown_count(self.rows() + (row,)) > 6:
-            return 'full', 6
-        self.named, self.next = self.named + [(self.next, row, worth)], self.next + 1
-        return 'returned', self.next - 1
-
-    def take(self, name):
-        if not self.is_name(name):
-            return InvalidNumber
-        self.named = [row for row in self.named if row[0] != name]
-        return 'returned', None
+        return self.refused_row(row, worth) or self.add(row, worth)
 
     def fill(self, name, column, value):
-        if not self.is_name(name) or not self.is_column(column):
-            return InvalidNumber
-        if self.entry(name, column) is not None:
-            return InvalidEntry
-        if not self.is_value(column, value):
-            return InvalidValue
-        self.set_entry(name, column, value)
-        return 'returned', None
-
-    def forget(self, name, column):
-        if not self.is_name(name) or not self.is_column(column):
-            return InvalidNumber
-        if self.entry(name, column) is None:
-            return InvalidEntry
-        if unknown_count(self.rows()) == 6:
-            return 'full', 6
-        self.set_entry(name, column, None)
+        refusal = self.refused_entry(name, column, value)
+        if refusal:
+            return refusal
+        self.named = self.with_entry(name, column, value)
         return 'returned', None
 
     def block(self, name):
@@ -92,13 +38,10 @@ class Model:
         return None if self.is_name(name) else InvalidNumber
 
     def mark(self, kept):
-        if len(self.marks) == 6:
-            return 'full', 6
-        self.marks = self.marks + [(self.named, kept)]
-        return 'returned', len(self.marks) - 1
+        return self.add_mark(kept)
 
     def back(self, number):
-        if type(number) is not int or not 0 <= number < len(self.marks):
+        if self.no_mark(number):
             return 'mark', number
         self.named = self.marks[number][0]
         self.marks = self.marks[:number + 1]
@@ -129,18 +72,6 @@ def drawn_start(draw):
     """Columns and a set of them, with rather few values."""
     columns = tuple(draw.choice([None, (0, 1), (0, 1), (0, 3, 7), (4,)]) for _ in range(draw.randint(1, 3)))
     return columns, drawn_set(draw, len(columns)) if draw.random() < 0.4 else tuple(range(len(columns)))
-
-
-def outcome(mender, method, arguments):
-    """What the call returns or raises, in the words of the model."""
-    try:
-        return 'returned', getattr(mender, method)(*arguments)
-    except Full as error:
-        return 'full', error.limit
-    except InvalidMark as error:
-        return 'mark', error.number
-    except KeyRuleError as error:
-        return type(error)
 
 
 def told(mender):

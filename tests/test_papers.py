@@ -14,7 +14,7 @@ from surekeys.mender import Mender
 from surekeys.papers import check_paper
 from surekeys.several import common_world
 from surekeys.worthy import blocks_of, most_worth
-from tests.samples import (WRONG_EVERYWHERE, all_sets, changed_somewhere, drawn_close_case, drawn_columns, drawn_held,
+from tests.samples import (WRONG_EVERYWHERE, changed_somewhere, drawn_close_case, drawn_columns, drawn_held,
                            drawn_set, drawn_table, drawn_worths)
 from tests.verdicts import PAPERS, RIGHT, paper_outcome
 
@@ -194,7 +194,8 @@ class FormsTest(Cases):
 
     def test_stuck(self):
         paper = EXAMPLES[5]
-        self.wrong_in(0, paper, 5, (1, 0, 2), (0, 0, 1), (0, 1, 3), [0, 1, 2], (False, True, 2), None, 3, 'abc', (0, 1, None))
+        self.wrong_in(0, paper, 5, (1, 0, 2), (0, 0, 1), (0, 1, 3), [0, 1, 2], (False, True, 2), None, 3, 'abc',
+                      (0, 1, None))
         self.wrong_in(1, paper, 5, (0, 1), (1, 2), (0,), ())
         paper = EXAMPLES[6]
         self.right_in(paper, 3, ((0, 0), (1, 0)), ((0, 0), (1, 0), (3, 0)))
@@ -209,7 +210,8 @@ class FormsTest(Cases):
     def test_count(self):
         paper = EXAMPLES[7]
         self.wrong_in(1, paper, 5, ('sure',), ('twins', 0, 1, 0), list(TREE), TREE[:3], ('split', 0, 0, TREE[3][::-1]),
-                      ('split', 0, 0, list(TREE[3])), ('split', 0, 0, (TREE[3][0], ['sure'])), None, 'sure', 0, ('choose', 0, ()),
+                      ('split', 0, 0, list(TREE[3])), ('split', 0, 0, (TREE[3][0], ['sure'])), None, 'sure', 0,
+                      ('choose', 0, ()),
                       ('split', False, 0, TREE[3]), ('new', 0, 0, TREE[3][0]), ('split', 0, 0, (TREE[3][0], ('sure', 0))))
         self.wrong_in(2, paper, 4, 0, 1, 3, -2, None, True, '2', (2,), [2], 10 ** 30)
         self.wrong(0, ('count', MIXED, ((None, 0),), (), 2, ('sure',)), ('count', MIXED, ((None, 0),), (), 0, 'x'),

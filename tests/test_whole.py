@@ -66,7 +66,7 @@ class WholeTest(unittest.TestCase):
     def test_possible_keys(self):
         counted = Counter()
         for columns, table in each_case(400, seed=121):
-            everything = tuple(range(len(table)))
+            everything, worths = tuple(range(len(table))), (0,) * len(table)
             least = least_possible(columns, table)
             for some in all_sets(len(columns)):
                 possible = is_possible(columns, table, some)
@@ -76,9 +76,11 @@ class WholeTest(unittest.TestCase):
                 tells = [
                     crowd(columns, table, some) is None, key_world(columns, table, some) is not None,
                     greatest_kept(columns, table, some) == everything, spared(columns, table, some) == (),
-                    is_keepable(columns, table, some, everything), kept_world(columns, table, some, everything) is not None,
-                    grown(columns, table, some, ()) == everything, most_worth(columns, table, some, (0,) * len(table)) == everything,
-                    blocks_of(columns, table, some, (0,) * len(table), everything) == (),
+                    is_keepable(columns, table, some, everything),
+                    kept_world(columns, table, some, everything) is not None,
+                    grown(columns, table, some, ()) == everything,
+                    most_worth(columns, table, some, worths) == everything,
+                    blocks_of(columns, table, some, worths, everything) == (),
                     fewest_changes(columns, table, (), some) == (), kept_count(columns, table, (some,)) != 0,
                     fewest_changes(columns, table, known_places(table), some) == (),
                     stuck_rows(columns, table, known_places(table), some) is None,
